@@ -1,0 +1,1 @@
+"""anyaround: parts of webs, whatever is built around them."""

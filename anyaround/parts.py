@@ -1,0 +1,96 @@
+"""Parts, webs with doors, and the webs that they become with ways back around them."""
+
+from anyaround.checks import is_integer, is_list
+from anyaround.errors import BadDoor, BadIns, BadOuts, BadWays
+from anyaround.webs import Web, read_step, read_walk
+
+
+class Part:
+    """A web with in doors and out doors."""
+
+    def __init__(self, places, steps, ins, outs):
+        self._web = Web(places, steps)
+        wrong = first_wrong(places, ins, [])
+        if wrong is not None:
+            raise BadIns(wrong)
+        wrong = first_wrong(places, outs, ins)
+        if wrong is not None:
+            raise BadOuts(wrong)
+        self._ins = list(ins)
+        self._outs = list(outs)
+
+    def web(self):
+        """The web of the part."""
+        return self._web
+
+    def ins(self):
+        """The places of the in doors, in their order."""
+        return list(self._ins)
+
+    def outs(self):
+        """The places of the out doors, in their order."""
+        return list(self._outs)
+
+    def __eq__(self, other):
+        if not isinstance(other, Part):
+            return False
+        return self._web == other._web and self._ins == other._ins and self._outs == other._outs
+
+
+def first_wrong(places, doors, taken):
+    """The index of the first thing that is no door, or stood before, or is taken; None if there is none."""
+    if not is_list(doors) or not doors:
+        return 0
+    seen = {place: True for place in taken}
+    for index, door in enumerate(doors):
+        if not is_integer(door) or door < 0 or door >= places or door in seen:
+            return index
+        seen[door] = True
+    return None
+
+
+def check_door(doors, number):
+    """Raise BadDoor for what is no number of a door in a list."""
+    if not is_integer(number) or number < 0 or number >= len(doors):
+        raise BadDoor(number)
+
+
+def is_pass(part, i, j, thing):
+    """Whether any object is a pass from in door i to out door j."""
+    ins = part.ins()
+    outs = part.outs()
+    check_door(ins, i)
+    check_door(outs, j)
+    walk = read_walk(part.web(), thing)
+    if not walk:
+        return False
+    return walk[0][0] == ins[i] and walk[-1][1] == outs[j]
+
+
+def read_way(part, thing):
+    """A way back of a part, of tuples; None for what is none."""
+    # A way back has the form of a step, its ends being numbers of doors.
+    ins = part.ins()
+    outs = part.outs()
+    way = read_step(max(len(ins), len(outs)), thing)
+    if way is None or way[0] >= len(outs) or way[1] >= len(ins):
+        return None
+    return way
+
+
+def closed(part, ways):
+    """The web of a part and of steps for ways back around it."""
+    if not is_list(ways):
+        raise BadWays(0)
+    ins = part.ins()
+    outs = part.outs()
+    seen = {}
+    steps = {step: True for step in part.web().steps()}
+    for index, thing in enumerate(ways):
+        way = read_way(part, thing)
+        if way is None or way in seen:
+            raise BadWays(index)
+        seen[way] = True
+        # Steps that come out alike are one.
+        steps[(outs[way[0]], ins[way[1]], way[2], way[3], way[4])] = True
+    return Web(part.web().places(), list(steps))

@@ -1,0 +1,113 @@
+"""Searches along steps: what is come to, least sums, rings below 0, cheapest rings."""
+
+
+def leaving(steps):
+    """The steps by the places where they begin."""
+    found = {}
+    for step in steps:
+        found.setdefault(step[0], []).append(step)
+    return found
+
+
+def spread(neighbours, starts):
+    """The ascending list of the places come to from starts, these too; neighbours are pairs (one, other)."""
+    ahead = {}
+    for one, other in neighbours:
+        ahead.setdefault(one, []).append(other)
+    seen = {place: True for place in starts}
+    todo = list(starts)
+    while todo:
+        for other in ahead.get(todo.pop(), []):
+            if other not in seen:
+                seen[other] = True
+                todo.append(other)
+    return sorted(seen)
+
+
+def come_to(steps, starts):
+    """The ascending list of the places to which walks lead from starts, these too."""
+    return spread([(step[0], step[1]) for step in steps], starts)
+
+
+def come_from(steps, ends):
+    """The ascending list of the places from which walks lead to ends, these too."""
+    return spread([(step[1], step[0]) for step in steps], ends)
+
+
+def ring_back(came, place):
+    """The ring into which one comes by going back from a place, as came tells; None if one comes to a begin.
+
+    came leads from places to the steps by which one came there last.
+    """
+    seen = {}
+    while place in came and place not in seen:
+        seen[place] = True
+        place = came[place][0]
+    if place not in came:
+        return None
+    ring = [came[place]]
+    while ring[-1][0] != place:
+        ring.append(came[ring[-1][0]])
+    return list(reversed(ring))
+
+
+def lowered(steps, weights, sums, came):
+    """Go over all steps once and lower sums by them; the place that was lowered last, or None."""
+    late = None
+    for step, weight in zip(steps, weights):
+        if step[0] in sums:
+            through = sums[step[0]] + weight
+            if step[1] not in sums or through < sums[step[1]]:
+                sums[step[1]] = through
+                came[step[1]] = step
+                late = step[1]
+    return late
+
+
+def least_sums(steps, weights, place):
+    """A pair: the least sums of weights of walks from a place, by their ends, or None; None, or a ring below 0.
+
+    The ring can be come to from the place, and its weights come to less than 0.
+    """
+    sums = {place: 0}
+    came = {}
+    late = place
+    # Whoever is lowered in a round later than there are places was lowered by way of a ring, so this ends.
+    while late is not None:
+        late = lowered(steps, weights, sums, came)
+        ring = ring_back(came, late)
+        if ring is not None:
+            return None, ring
+    return {end: sums[end] for end in sorted(sums)}, None
+
+
+def cost_of(prices, amounts):
+    """What a pair of amounts, or the first two of a row, costs at prices."""
+    return prices[0] * amounts[0] + prices[1] * amounts[1]
+
+
+def weights_above(steps, prices, rate):
+    """What each step costs above a rate, as often as the bottom of the rate tells."""
+    top, bottom = rate
+    return [bottom * cost_of(prices, step[2]) - top * step[3] for step in steps]
+
+
+def row_along(walk):
+    """The amounts and the ticks of the steps of a walk together, as a triple, not divided."""
+    first = sum([step[2][0] for step in walk])
+    second = sum([step[2][1] for step in walk])
+    return first, second, sum([step[3] for step in walk])
+
+
+def cheapest_ring(steps, place, prices):
+    """A ring with the least rate at prices that can be come to from a place, None if there is none."""
+    # No ring costs more per tick than its dearest step does, as each step takes a tick.
+    rate = (1 + max([0] + [cost_of(prices, step[2]) for step in steps]), 1)
+    best = None
+    while True:
+        _, ring = least_sums(steps, weights_above(steps, prices, rate), place)
+        if ring is None:
+            return best
+        best = ring
+        row = row_along(ring)
+        rate = (cost_of(prices, row), row[2])

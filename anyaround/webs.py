@@ -1,0 +1,123 @@
+"""Webs, and the walks and rings in them."""
+
+from anyaround.checks import check_place, is_integer, is_integers, is_list
+from anyaround.errors import BadPlaces, BadSteps, BadWalk
+from anyaround.searches import come_to, row_along
+
+
+class Web:
+    """Places, numbered from 0 on, and steps between them."""
+
+    def __init__(self, places, steps):
+        if not is_integer(places) or places < 1:
+            raise BadPlaces(places)
+        self._places = places
+        self._steps = sorted(read_steps(places, steps))
+
+    def places(self):
+        """How many places the web has."""
+        return self._places
+
+    def steps(self):
+        """The ascending list of the steps."""
+        return list(self._steps)
+
+    def __eq__(self, other):
+        return isinstance(other, Web) and self._places == other._places and self._steps == other._steps
+
+
+def read_step(places, thing):
+    """A step between so many places, of tuples; None for what is no such step."""
+    if not is_list(thing) or len(thing) != 5:
+        return None
+    one, other, amounts, ticks, change = thing
+    if not is_integers([one, other, ticks, change], 4) or not is_integers(amounts, 2):
+        return None
+    if one < 0 or one >= places or other < 0 or other >= places or ticks < 1:
+        return None
+    return one, other, tuple(amounts), ticks, change
+
+
+def read_steps(places, things):
+    """Unlike steps between so many places, in the order in which they are passed."""
+    if not is_list(things):
+        raise BadSteps(0)
+    found = {}
+    for index, thing in enumerate(things):
+        step = read_step(places, thing)
+        if step is None or step in found:
+            raise BadSteps(index)
+        found[step] = True
+    return list(found)
+
+
+def read_walk(web, thing):
+    """A walk as a list of steps of tuples; None for what is no walk."""
+    if not is_list(thing):
+        return None
+    known = {step: True for step in web.steps()}
+    walk = []
+    for part in thing:
+        step = read_step(web.places(), part)
+        if step not in known:
+            return None
+        if walk and walk[-1][1] != step[0]:
+            return None
+        walk.append(step)
+    return walk
+
+
+def checked_walk(web, thing):
+    """A walk as a list of steps of tuples."""
+    walk = read_walk(web, thing)
+    if walk is None:
+        raise BadWalk(thing)
+    return walk
+
+
+def is_walk(web, thing):
+    """Whether any object is a walk."""
+    return read_walk(web, thing) is not None
+
+
+def is_ring(web, thing):
+    """Whether any object is a ring: it ends where it begins and comes into no place twice."""
+    walk = read_walk(web, thing)
+    if not walk:
+        return False
+    ends = {step[1]: True for step in walk}
+    return walk[0][0] == walk[-1][1] and len(ends) == len(walk)
+
+
+def sum_of(web, walk):
+    """The triple (amounts, ticks, change) of what the steps of a walk have together."""
+    steps = checked_walk(web, walk)
+    first, second, ticks = row_along(steps)
+    return (first, second), ticks, sum([step[4] for step in steps])
+
+
+def reached(web, place):
+    """The ascending list of the places to which walks lead from a place, this one too."""
+    check_place(web, place)
+    return come_to(web.steps(), [place])
+
+
+def lots(web):
+    """The list of the lots, by their least places."""
+    steps = web.steps()
+    ahead = []
+    for place in range(web.places()):
+        ahead.append({other: True for other in come_to(steps, [place])})
+    # A ring goes through a place just if from where some step of it leads one can come back.
+    ringed = {step[0]: True for step in steps if step[0] in ahead[step[1]]}
+    found = []
+    for place in range(web.places()):
+        together = [other for other in ahead[place] if place in ahead[other]]
+        if place in ringed and together[0] == place:
+            found.append(together)
+    return found
+
+
+def steps_within(web, lot):
+    """The ascending list of the steps that lead from a place of a lot to a place of it."""
+    return [step for step in web.steps() if step[0] in lot and step[1] in lot]
