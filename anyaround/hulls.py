@@ -81,6 +81,7 @@ def prices_above(line, point):
     if less(point, line[-1], 1):
         return 0, 1
     for low, high in neighbours(line):
-        if not less(point, low, 0) and less(point, high, 0) and turn(low, point, high) > 0:
+        # All rows lie on or above the line through two neighbours.
+        if turn(low, point, high) > 0:
             return even_prices(low, high)
     return None

@@ -2,7 +2,7 @@
 
 from anyaround.checks import undivided
 from anyaround.hulls import alone, even_prices, in_order
-from anyaround.searches import cheapest_ring, come_to, cost_of, leaving, row_along
+from anyaround.searches import cheapest_ring, come_from, come_to, cost_of, leaving, row_along
 
 
 def row_of(ring):
@@ -10,21 +10,27 @@ def row_of(ring):
     return undivided(row_along(ring))
 
 
+def steps_round(steps, start):
+    """The steps of rings whose least place is a start, by the places where they begin."""
+    above = [step for step in steps if step[0] >= start and step[1] >= start]
+    back = {place: True for place in come_from(above, [start])}
+    ahead = {place: True for place in come_to(above, [start])}
+    return leaving([step for step in above if step[0] in ahead and step[1] in back])
+
+
 def one_further(ahead, start, layer, found):
     """Walks from start that are a step longer; those that close a ring are put into found.
 
-    A layer leads from the pairs (end, places come into, as bits) of simple walks to dicts of their sums; start is
-    the least place of each.
+    A layer leads from the pairs (end, places come into, as bits) of simple walks to dicts of their sums.
     """
     longer = {}
     for (place, seen), sums in layer.items():
-        for step in ahead.get(place, []):
-            other = step[1]
-            bit = 1 << other
-            if other < start or seen & bit:
+        for step in ahead[place]:
+            bit = 1 << step[1]
+            if seen & bit:
                 continue
-            more = [(a + step[2][0], b + step[2][1], ticks + step[3]) for a, b, ticks in sums]
-            kept = found if other == start else longer.setdefault((other, seen | bit), {})
+            more = [(first + step[2][0], second + step[2][1], ticks + step[3]) for first, second, ticks in sums]
+            kept = found if step[1] == start else longer.setdefault((step[1], seen | bit), {})
             for row in more:
                 kept[row] = True
     return longer
@@ -32,11 +38,11 @@ def one_further(ahead, start, layer, found):
 
 def all_rows(steps, place):
     """The rows of all rings that can be come to from a place, each once, in their order."""
-    ahead = leaving(steps)
     found = {}
     for start in come_to(steps, [place]):
         # Each ring is looked for from its least place alone.
-        layer = {(start, 0): {(0, 0, 0): True}}
+        ahead = steps_round(steps, start)
+        layer = {(start, 0): {(0, 0, 0): True}} if start in ahead else {}
         while layer:
             layer = one_further(ahead, start, layer, found)
     rows = {undivided(row): True for row in found}

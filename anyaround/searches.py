@@ -17,7 +17,8 @@ def spread(neighbours, starts):
     seen = {place: True for place in starts}
     todo = list(starts)
     while todo:
-        for other in ahead.get(todo.pop(), []):
+        place = todo.pop()
+        for other in ahead.get(place, []):
             if other not in seen:
                 seen[other] = True
                 todo.append(other)

@@ -37,11 +37,11 @@ def gain_rank(steps, place, other, stock):
 
 
 def greatest_need(steps):
-    """What is enough to go any simple walk by steps, and any ring behind it."""
+    """What is enough to go any simple walk by steps, and any ring that shares with it the place where it ends."""
     losses = {}
     for step in steps:
         losses[step[0]] = max(losses.get(step[0], 0), 0 - step[4])
-    return 2 * sum(list(losses.values()))
+    return sum(list(losses.values()))
 
 
 def next_need(steps, place, other, low, high):

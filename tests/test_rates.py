@@ -64,6 +64,12 @@ class RateTest(unittest.TestCase):
         self.assertEqual(rate_at(web, 0, (1, 1)), (-13, 11))
         self.assertEqual(rate_at(web, 1, (1, 10)), (-11, 2))
 
+    def test_all_steps_like_dear(self):
+        web = Web(2, [(0, 1, (5, 5), 1, 0), (1, 0, (5, 5), 1, 0)])
+        self.assertEqual(rate_at(web, 0, (1, 1)), (10, 1))
+        web = Web(1, [(0, 0, (-5, -5), 1, 0)])
+        self.assertEqual(rate_at(web, 0, (1, 1)), (-10, 1))
+
     def test_great_web(self):
         random = Random(4)
         steps = {(k, (k + 1) % 80, (random.randint(0, 9), random.randint(0, 9)), random.randint(1, 6), 0)
@@ -147,6 +153,7 @@ class HeightsTest(unittest.TestCase):
                 thing = dict(told)
                 del thing[key]
                 self.assertIs(is_heights(web, place, prices, bounds, thing), False)
+                self.assertIs(is_heights(web, place, prices, bounds, {**thing, 99: told[key]}), False)
                 thing[str(key)] = told[key]
                 self.assertIs(is_heights(web, place, prices, bounds, thing), False)
             self.assertIs(is_heights(web, place, prices, bounds, {**told, 99: 0}), False)

@@ -48,6 +48,31 @@ class RowsTest(unittest.TestCase):
         self.assertEqual(mix_under(web, 0, (0, 5, 1)), {(0, 4, 1): 1})
         self.assertEqual(mix_under(web, 0, (3, 3, 1)), {(0, 4, 1): 1, (4, 0, 1): 3})
 
+    def test_ties_below_the_line_of_both_ends(self):
+        # At (1, 1) all of (2, 4), (3, 3), (4, 2) are cheapest.
+        for others in ([(2, 4), (3, 3), (4, 2)], [(3, 3), (2, 4), (4, 2)]):
+            for ticks in ((1, 1, 1), (1, 2, 1), (2, 1, 2), (3, 2, 1)):
+                steps = [(0, 0, (0, 9), 1, 0), (0, 0, (9, 0), 1, 0)]
+                steps += [(0, 0, (a * t, b * t), t, -t) for (a, b), t in zip(others, ticks)]
+                web = Web(1, steps)
+                self.assertEqual(best_rows(web, 0), [(0, 9, 1), (2, 4, 1), (4, 2, 1), (9, 0, 1)])
+                self.assertEqual(bends(web, 0), [(5, 2), (1, 1), (2, 5)])
+                self.assertEqual(prices_for(web, 0, (3, 3, 1)), (1, 1))
+                self.assertIsNone(mix_under(web, 0, (3, 3, 1)))
+
+    def test_ends_that_differ_by_little(self):
+        # 4 / 29 is by less than a thousandth below 5 / 36.
+        web = Web(1, [(0, 0, (5, -324), 36, 0), (0, 0, (4, 261), 29, 0)])
+        self.assertEqual(best_rows(web, 0), [(4, 261, 29), (5, -324, 36)])
+        web = Web(1, [(0, 0, (-324, 5), 36, 0), (0, 0, (261, 4), 29, 0), (0, 0, (261, 5), 29, 0)])
+        self.assertEqual(best_rows(web, 0), [(-324, 5, 36), (261, 4, 29)])
+        web = Web(6, [(0, 1, (0, 9), 6, 0), (1, 0, (0, 9), 6, 0), (1, 2, (0, 9), 6, 0), (2, 3, (0, 9), 6, 0),
+                      (3, 4, (0, 9), 6, 0), (4, 5, (1, 9), 6, 0), (5, 0, (0, 9), 6, 0), (5, 0, (0, -9), 5, 0),
+                      (1, 1, (1, -9), 5, 0), (5, 5, (2, -9), 6, 0)])
+        rows = all_rows(web, 0)
+        self.assertEqual(best_rows(web, 0), [row for row in rows
+                                             if shares(row, [one for one in rows if one != row], True)])
+
     def test_order_by_ticks(self):
         web = Web(1, [(0, 0, (1, 0), 2, 0), (0, 0, (1, 0), 3, 0), (0, 0, (-1, 4), 5, 0), (0, 0, (1, 7), 2, 0),
                       (0, 0, (2, 1), 4, 0)])
