@@ -3,8 +3,7 @@
 from anyaround.checks import check_place, is_list, read_fraction
 from anyaround.errors import BadBudget
 from anyaround.hulls import mix_upto, prices_above
-from anyaround.ringrows import alone_rows
-from anyaround.webs import lots, reached, steps_within
+from anyaround.ringrows import lot_line, lots_ahead
 
 
 def checked_budget(budget):
@@ -16,17 +15,6 @@ def checked_budget(budget):
         if thing is not None and bound is None:
             raise BadBudget(budget)
     return bounds
-
-
-def lots_reached(web, place):
-    """The list of the lots that are reached from a place."""
-    places = reached(web, place)
-    return [lot for lot in lots(web) if lot[0] in places]
-
-
-def rows_of_lot(web, lot):
-    """The rows of the rings of a lot that are alone."""
-    return alone_rows(steps_within(web, lot), lot[0])
 
 
 def bounding_point(line, bounds):
@@ -45,11 +33,11 @@ def mix_within(web, place, budget):
     """A lot that is reached and a mix of rows of its rings within a budget, None if there is none."""
     check_place(web, place)
     bounds = checked_budget(budget)
-    for lot in lots_reached(web, place):
-        line = rows_of_lot(web, lot)
+    for lot, steps in lots_ahead(web, place):
+        line = lot_line(web, lot, steps)
         mix = mix_upto(line, bounding_point(line, bounds))
         if mix is not None:
-            return lot, mix
+            return list(lot), mix
     return None
 
 
@@ -58,8 +46,8 @@ def prices_over(web, place, budget):
     check_place(web, place)
     bounds = checked_budget(budget)
     found = {}
-    for lot in lots_reached(web, place):
-        line = rows_of_lot(web, lot)
+    for lot, steps in lots_ahead(web, place):
+        line = lot_line(web, lot, steps)
         prices = prices_above(line, bounding_point(line, bounds))
         if prices is None:
             return None

@@ -18,6 +18,8 @@ class Part:
             raise BadOuts(wrong)
         self._ins = list(ins)
         self._outs = list(outs)
+        # What was worked out of the part by others stays with it, as it never changes.
+        self.known = {}
 
     def web(self):
         """The web of the part."""
@@ -67,30 +69,37 @@ def is_pass(part, i, j, thing):
     return walk[0][0] == ins[i] and walk[-1][1] == outs[j]
 
 
-def read_way(part, thing):
-    """A way back of a part, of tuples; None for what is none."""
+def read_way(ins, outs, thing):
+    """A way back between so many in doors and out doors, of tuples; None for what is none."""
     # A way back has the form of a step, its ends being numbers of doors.
-    ins = part.ins()
-    outs = part.outs()
-    way = read_step(max(len(ins), len(outs)), thing)
-    if way is None or way[0] >= len(outs) or way[1] >= len(ins):
+    way = read_step(max(ins, outs), thing)
+    if way is None or way[0] >= outs or way[1] >= ins:
         return None
     return way
 
 
+def read_ways(ins, outs, things):
+    """A pair: unlike ways back between so many doors, or None; None, or the index of the first thing that is none."""
+    if not is_list(things):
+        return None, 0
+    found = {}
+    for index, thing in enumerate(things):
+        way = read_way(ins, outs, thing)
+        if way is None or way in found:
+            return None, index
+        found[way] = True
+    return list(found), None
+
+
 def closed(part, ways):
     """The web of a part and of steps for ways back around it."""
-    if not is_list(ways):
-        raise BadWays(0)
     ins = part.ins()
     outs = part.outs()
-    seen = {}
+    found, wrong = read_ways(len(ins), len(outs), ways)
+    if wrong is not None:
+        raise BadWays(wrong)
+    # Steps that come out alike are one.
     steps = {step: True for step in part.web().steps()}
-    for index, thing in enumerate(ways):
-        way = read_way(part, thing)
-        if way is None or way in seen:
-            raise BadWays(index)
-        seen[way] = True
-        # Steps that come out alike are one.
+    for way in found:
         steps[(outs[way[0]], ins[way[1]], way[2], way[3], way[4])] = True
     return Web(part.web().places(), list(steps))

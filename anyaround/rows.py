@@ -3,20 +3,20 @@
 from anyaround.checks import check_place, is_integers
 from anyaround.errors import BadRow
 from anyaround.hulls import even_prices, mix_upto, neighbours
-from anyaround.ringrows import all_rows, alone_rows
+from anyaround.ringrows import lines_ahead, rows_ahead
 from anyaround.searches import cost_of
 
 
 def rows_of(web, place):
     """The rows of all rings that one can come to from a place, each once."""
     check_place(web, place)
-    return all_rows(web.steps(), place)
+    return list(rows_ahead(web, place))
 
 
 def best_rows(web, place):
     """The rows that are at some prices the only cheapest ones per tick."""
     check_place(web, place)
-    return alone_rows(web.steps(), place)
+    return list(lines_ahead(web, place))
 
 
 def bends(web, place):
@@ -26,8 +26,8 @@ def bends(web, place):
 
 def checked_row(web, place, row):
     """A row of rows_of, as a tuple."""
-    rows = rows_of(web, place)
-    if not is_integers(row, 3) or tuple(row) not in rows:
+    check_place(web, place)
+    if not is_integers(row, 3) or tuple(row) not in rows_ahead(web, place):
         raise BadRow(row)
     return tuple(row)
 
@@ -47,13 +47,13 @@ def prices_among(line, row):
 def prices_for(web, place, row):
     """Prices at which a row of rows_of is a cheapest one per tick, None if there are none."""
     asked = checked_row(web, place, row)
-    return prices_among(best_rows(web, place), asked)
+    return prices_among(lines_ahead(web, place), asked)
 
 
 def mix_under(web, place, row):
     """A mix of at most two of best_rows that has less per tick than a row of rows_of, None if there is none."""
     asked = checked_row(web, place, row)
-    line = best_rows(web, place)
+    line = lines_ahead(web, place)
     if prices_among(line, asked) is not None:
         return None
     return mix_upto(line, asked)

@@ -35,6 +35,85 @@ def come_from(steps, ends):
     return spread([(step[1], step[0]) for step in steps], ends)
 
 
+def in_reach(steps, place):
+    """The steps that can be come to from a place, those nearer to it first."""
+    ahead = leaving(steps)
+    seen = {place: True}
+    todo = [place]
+    found = []
+    while todo:
+        later = []
+        for one in todo:
+            for step in ahead.get(one, []):
+                found.append(step)
+                if step[1] not in seen:
+                    seen[step[1]] = True
+                    later.append(step[1])
+        todo = later
+    return found
+
+
+def left_last(ahead, starts):
+    """The places to which neighbours lead from starts, each behind those to which it leads, but for rings."""
+    seen = {}
+    found = []
+    for start in starts:
+        todo = [] if start in seen else [(start, 0)]
+        seen[start] = True
+        while todo:
+            place, k = todo.pop()
+            others = ahead.get(place, [])
+            if k == len(others):
+                found.append(place)
+            else:
+                todo.append((place, k + 1))
+                if others[k] not in seen:
+                    seen[others[k]] = True
+                    todo.append((others[k], 0))
+    return found
+
+
+def together_of(steps):
+    """A dict from the places of steps to the least place of those that can be come to from one another."""
+    ahead = {}
+    back = {}
+    for step in steps:
+        ahead.setdefault(step[0], []).append(step[1])
+        back.setdefault(step[1], []).append(step[0])
+    least = {}
+    for start in reversed(left_last(ahead, list(ahead))):
+        if start not in least:
+            group = come_back(back, start, least)
+            first = min(group)
+            for place in group:
+                least[place] = first
+    return least
+
+
+def come_back(back, start, taken):
+    """The places to which one comes from a start by going back, this one too, without any that are taken."""
+    found = [start]
+    seen = {start: True}
+    todo = [start]
+    while todo:
+        for other in back.get(todo.pop(), []):
+            if other not in seen and other not in taken:
+                seen[other] = True
+                found.append(other)
+                todo.append(other)
+    return found
+
+
+def lots_of(steps):
+    """The list of the lots, ascending lists of places, by their least places, each with the steps within it."""
+    least = together_of(steps)
+    within = {}
+    for step in steps:
+        if step[1] in least and least[step[0]] == least[step[1]]:
+            within.setdefault(least[step[0]], []).append(step)
+    return [(sorted({step[0]: True for step in within[first]}), within[first]) for first in sorted(within)]
+
+
 def ring_back(came, place):
     """The ring into which one comes by going back from a place, as came tells; None if one comes to a begin.
 
@@ -70,15 +149,19 @@ def least_sums(steps, weights, place):
 
     The ring can be come to from the place, and its weights come to less than 0.
     """
-    sums = {place: 0}
+    return sums_or_ring(steps, weights, {place: 0})
+
+
+def sums_or_ring(steps, weights, sums):
+    """The same for walks from several places, at sums that are there already; the dict of these is used up."""
     came = {}
-    late = place
+    late = lowered(steps, weights, sums, came)
     # Whoever is lowered in a round later than there are places was lowered by way of a ring, so this ends.
     while late is not None:
-        late = lowered(steps, weights, sums, came)
         ring = ring_back(came, late)
         if ring is not None:
             return None, ring
+        late = lowered(steps, weights, sums, came)
     return {end: sums[end] for end in sorted(sums)}, None
 
 

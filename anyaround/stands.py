@@ -79,12 +79,3 @@ def longest_layers(steps, place, stock):
         layers.append(layer)
         layer = next_layer(ahead, layer)
     return layers
-
-
-def layers_until(steps, place, stock, end, wanted):
-    """The layers up to the first one in which one is at an end with at least a wanted stock, where there is one."""
-    ahead = leaving(steps)
-    layers = [first_layer(place, stock)]
-    while end not in layers[-1] or layers[-1][end][0] < wanted:
-        layers.append(next_layer(ahead, layers[-1]))
-    return layers

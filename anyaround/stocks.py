@@ -1,6 +1,8 @@
 """Stocks: what walks need, and with how much one can go on for ever."""
 
 from anyaround.checks import check_place, check_stock, is_integer, is_number
+from anyaround.climbs import need_and_gain
+from anyaround.ringrows import lots_known
 from anyaround.searches import leaving
 from anyaround.stands import longest_layers, most_stocks, walk_to
 from anyaround.webs import checked_walk
@@ -8,12 +10,7 @@ from anyaround.webs import checked_walk
 
 def need_of(web, walk):
     """The pair (need, gain) of a walk."""
-    need = 0
-    gain = 0
-    for step in checked_walk(web, walk):
-        gain = gain + step[4]
-        need = max(need, 0 - gain)
-    return need, gain
+    return need_and_gain(checked_walk(web, walk))
 
 
 def comes_back(steps, place):
@@ -27,14 +24,18 @@ def comes_back(steps, place):
     return False
 
 
-def needs_on(web):
+def needs_of(web):
     """The least stocks with which one can go on for ever, by the places from which one can at all.
 
     Each ring that loses nothing has a place from which it can be gone with nothing; so one goes on for ever just by
     coming to a place to which one can come back from nothing.
     """
+    needs = {}
+    for lot, within in lots_known(web):
+        for place in lot:
+            if comes_back(within, place):
+                needs[place] = 0
     steps = web.steps()
-    needs = {place: 0 for place in range(web.places()) if comes_back(steps, place)}
     changed = True
     while changed:
         changed = False
@@ -45,6 +46,13 @@ def needs_on(web):
                     needs[step[0]] = need
                     changed = True
     return needs
+
+
+def needs_on(web):
+    """The same, kept with the web."""
+    if "needs on" not in web.known:
+        web.known["needs on"] = needs_of(web)
+    return web.known["needs on"]
 
 
 def least_ons(web):

@@ -2,7 +2,7 @@
 
 from anyaround.checks import check_place, is_integer, is_integers, is_list
 from anyaround.errors import BadPlaces, BadSteps, BadWalk
-from anyaround.searches import come_to, row_along
+from anyaround.searches import come_to, lots_of, row_along
 
 
 class Web:
@@ -13,6 +13,8 @@ class Web:
             raise BadPlaces(places)
         self._places = places
         self._steps = sorted(read_steps(places, steps))
+        # What was worked out of the web by others stays with it, as it never changes.
+        self.known = {}
 
     def places(self):
         """How many places the web has."""
@@ -104,20 +106,4 @@ def reached(web, place):
 
 def lots(web):
     """The list of the lots, by their least places."""
-    steps = web.steps()
-    ahead = []
-    for place in range(web.places()):
-        ahead.append({other: True for other in come_to(steps, [place])})
-    # A ring goes through a place just if from where some step of it leads one can come back.
-    ringed = {step[0]: True for step in steps if step[0] in ahead[step[1]]}
-    found = []
-    for place in range(web.places()):
-        together = [other for other in ahead[place] if place in ahead[other]]
-        if place in ringed and together[0] == place:
-            found.append(together)
-    return found
-
-
-def steps_within(web, lot):
-    """The ascending list of the steps that lead from a place of a lot to a place of it."""
-    return [step for step in web.steps() if step[0] in lot and step[1] in lot]
+    return [lot for lot, _ in lots_of(web.steps())]
