@@ -63,7 +63,7 @@ def many_times(thing, many, join):
 
 
 def rounds_until(stock, pairs, number):
-    """How often one can go the pair with a number, so that only behind the last time another one holds; None if always."""
+    """How often one goes the pair with a number until another one holds, None if it holds for ever."""
     need, gain = pairs[number]
     if gain < 0:
         return (stock - need) // (0 - gain) + 1

@@ -84,20 +84,56 @@ def weights_for(gaps):
     return rays[0]
 
 
-def mix_by(rows, gaps):
-    """A mix of at most three rows that has nothing too much, None if there is none.
+def shut_at(rays, planes):
+    """The number of the first plane above which nothing lies of what is above those ahead, None if something does."""
+    for number, plane in enumerate(planes):
+        rays = cut_above(rays, plane)
+        if not rays:
+            return number
+    return None
+
+
+def mix_with_last(rows, gaps):
+    """A mix of at most three rows, the last one among them, that has nothing too much, None if there is none.
 
     Gaps are lists, one for each row, of what it has too much in one way and another.
     """
-    for row, gap in zip(rows, gaps):
-        if max(gap) <= 0:
-            return {row: 1}
-    numbers = list(range(len(rows)))
-    for chosen in list(combinations(numbers, 2)) + list(combinations(numbers, 3)):
-        weights = weights_for([gaps[k] for k in chosen])
+    last = len(rows) - 1
+    others = list(range(last))
+    for chosen in [()] + list(combinations(others, 1)) + list(combinations(others, 2)):
+        numbers = list(chosen) + [last]
+        weights = weights_for([gaps[k] for k in numbers])
         if weights is not None:
-            return ascending_mix([(rows[k], weight) for k, weight in zip(chosen, weights) if weight > 0])
+            return ascending_mix([(rows[k], weight) for k, weight in zip(numbers, weights) if weight > 0])
     return None
+
+
+def steepest(gaps, which):
+    """The number of the list of two gaps that has, for each 1 too little of one, the least too much of the other one.
+
+    which tells of which one it has too little; None if none has too little of it.
+    """
+    best = None
+    for number, gap in enumerate(gaps):
+        if gap[which] < 0:
+            if best is None or gap[1 - which] * gaps[best][which] > gaps[best][1 - which] * gap[which]:
+                best = number
+    return best
+
+
+def mix_of_two(rows, gaps):
+    """A mix of at most two rows that has nothing too much, None if there is none; gaps are pairs."""
+    for row, gap in zip(rows, gaps):
+        if gap[0] <= 0 and gap[1] <= 0:
+            return {row: 1}
+    left = steepest(gaps, 0)
+    right = steepest(gaps, 1)
+    if left is None or right is None:
+        return None
+    weights = (gaps[right][0], 0 - gaps[left][0])
+    if weights[0] * gaps[left][1] + weights[1] * gaps[right][1] > 0:
+        return None
+    return ascending_mix([(rows[left], weights[0]), (rows[right], weights[1])])
 
 
 def first_unasked(cells, asked):

@@ -1,7 +1,7 @@
 """Forms of the kinds "budgets" and "prices" beside one another: what shows that one is never worse, or where it is."""
 
 from anyaround.checks import is_integers, is_list, undivided
-from anyaround.cones import QUARTER, mix_by, point_above
+from anyaround.cones import QUARTER, mix_of_two, point_above
 from anyaround.ratepapers import is_mix_of
 
 
@@ -48,7 +48,7 @@ def paper_for(kind, pairs, target):
     """What shows that pairs are as good as another pair, where they are."""
     if kind == "budgets":
         return pair_upto(pairs, target)
-    return mix_by(pairs, gaps_above(pairs, target))
+    return mix_of_two(pairs, gaps_above(pairs, target))
 
 
 def costs_papers(kind, one, other):

@@ -74,5 +74,7 @@ def read_net(part_ins, part_outs, links, ins, outs):
 def net_of(parts, links, ins, outs):
     """The parts, links, in doors and out doors of a net, as read_net tells them."""
     found = read_parts(parts)
-    return (found, *read_net([len(part.ins()) for part in found], [len(part.outs()) for part in found],
-                             links, ins, outs))
+    part_ins = [len(part.ins()) for part in found]
+    part_outs = [len(part.outs()) for part in found]
+    found_links, found_ins, found_outs = read_net(part_ins, part_outs, links, ins, outs)
+    return found, found_links, found_ins, found_outs

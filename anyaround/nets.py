@@ -55,7 +55,8 @@ def whole_of(parts, links, ins, outs):
 
 def wired(parts, links, ins, outs):
     """The whole of a net of parts."""
-    return whole_of(*net_of(parts, links, ins, outs))
+    net = net_of(parts, links, ins, outs)
+    return whole_of(*net)
 
 
 def by_itself(number, many):

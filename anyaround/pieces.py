@@ -94,14 +94,14 @@ def stands_behind(parts, offsets, known, links, stand, step):
 
 
 def pieces_back(parts, layers, walk, stand, out):
-    """The pieces of a walk, where layers lead from stands to how one came there; it left the last one by an out door."""
+    """The pieces of a walk that ends at a stand, by an out door; layers lead from stands to how one came there."""
     found = []
     steps = []
-    for step, layer in zip(reversed(walk), reversed(layers)):
+    for k in reversed(range(len(walk))):
         number, i, place = stand
         other = parts[number].outs()[out] if not steps else steps[-1][0]
-        steps.append((place, other, step[2], step[3], step[4]))
-        before, left = layer[stand]
+        steps.append((place, other, walk[k][2], walk[k][3], walk[k][4]))
+        before, left = layers[k][stand]
         if before is None or left is not None:
             found.append((number, i, out, list(reversed(steps))))
             steps = []
@@ -113,8 +113,8 @@ def pieces_back(parts, layers, walk, stand, out):
 def last_stand(parts, known, layer, ends, step):
     """A stand from which a step leads out of the whole, and the out door of the part by which it does."""
     for number, i, place in layer:
-        for out in [out for other, out in ends if other == number]:
-            if (place, parts[number].outs()[out], step[2], step[3], step[4]) in known[number]:
+        for other, out in ends:
+            if other == number and (place, parts[number].outs()[out], step[2], step[3], step[4]) in known[number]:
                 return (number, i, place), out
     return None
 

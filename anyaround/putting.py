@@ -28,7 +28,8 @@ def put_together(forms, kind, links, ins, outs):
     found = checked_forms(forms, kind)
     doors = [doors_of(one, kind) for one in found]
     net = read_net([many for many, _ in doors], [many for _, many in doors], links, ins, outs)
-    return fresh(form_of(whole_of([part_of(one, kind) for one in found], *net), kind))
+    parts = [part_of(one, kind) for one in found]
+    return fresh(form_of(whole_of(parts, *net), kind))
 
 
 def worth_by(form, kind, surrounding):

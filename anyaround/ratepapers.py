@@ -1,7 +1,7 @@
 """Forms of the kind "rates" beside one another: what shows that one is never worse, or where it is."""
 
 from anyaround.checks import is_integer, is_integers, is_list, undivided
-from anyaround.cones import QUARTER, dot, minus, mix_by, point_above
+from anyaround.cones import QUARTER, dot, minus, mix_of_two, mix_with_last, point_above, shut_at
 from anyaround.passes import corners_of, inside, spread_of
 
 
@@ -12,16 +12,19 @@ def above_rate(row, target):
 
 def mix_under_row(rows, target):
     """A mix of rows whose sum has, per tick, in neither amount more than a row, None if there is none."""
-    return mix_by(rows, [above_rate(row, target) for row in rows])
+    return mix_of_two(rows, [above_rate(row, target) for row in rows])
 
 
-def mix_at_corners(points, corners, target):
+def mix_at_corners(rows, points, corners, target):
     """A mix of points whose mean comes, at each corner, to at most what a point does, None if there is none."""
-    gaps = []
-    for point in points:
-        apart = minus(point, target)
-        gaps.append([dot(apart, corner) for corner in corners])
-    return mix_by(points, gaps)
+    planes = [minus(point, target) for point in points]
+    gaps = [[dot(plane, corner) for corner in corners] for plane in planes]
+    for point, gap in zip(points, gaps):
+        if max(gap) <= 0:
+            return {point: 1}
+    # Where no point inside is above all planes none is above some three of them, the last one that counts among these.
+    shut = shut_at(inside(rows, spread_of(points + [target])), planes)
+    return None if shut is None else mix_with_last(points[:shut + 1], gaps[:shut + 1])
 
 
 def dear_prices(rows, target):
@@ -74,7 +77,7 @@ def rates_papers(one, other):
         under = [mix_under_row(rows, target) for target in other[i][0]]
         shown = []
         for j in range(len(passes)):
-            shown.append([mix_at_corners(passes[j], corners, target) for target in other[i][1][j]])
+            shown.append([mix_at_corners(rows, passes[j], corners, target) for target in other[i][1][j]])
         found.append((under, shown))
     return found
 

@@ -72,7 +72,7 @@ def read_surrounding(kind, ins, outs, thing):
     behind = read_behind(kind, ins, outs, thing[1:])
     if any([one is None for one in behind]):
         return None
-    return (thing[0], *behind)
+    return (thing[0],) + behind
 
 
 def leads_round(pairs):

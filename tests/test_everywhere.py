@@ -4,7 +4,8 @@ import copy
 import inspect
 import unittest
 
-from anyaround import hadrates, parts, passes, rates, rows, stairs, stocks, webs
+from anyaround import (copies, formparts, fronts, hadrates, holes, kinds, learning, longchains, nets, parts, passes, pieces,
+                       putting, rates, rows, slices, stairs, stocks, webs)
 from anyaround.parts import Part
 from anyaround.webs import Web
 
@@ -30,6 +31,48 @@ CALLS = [
     (stairs.most_out, (web_v(), 0, 2, 4)), (stairs.stairs, (web_v(), 0, 2)),
     (stairs.way_out, (web_v(), 0, 2, 5, 9)), (stairs.covers, (web_v(), 0, 5)),
     (stairs.is_cover, (web_v(), 0, 4, {0: 4, 1: 1, 2: 6}))]
+MORE = Part(3, P_STEPS + [(0, 2, (1, 3), 2, 0)], [0], [2])
+WALKED = Part(4, V_STEPS, [0], [2])
+LESS = Part(4, V_STEPS[1:], [0], [2])
+STEPPED = Part(2, [(0, 1, (1, 0), 1, 0)], [0], [1])
+HOLE = Part(4, [(0, 0, (4, 0), 1, -1), (0, 1, (1, 0), 1, 1), (2, 1, (0, 2), 1, -2), (2, 3, (1, 1), 1, 0)], [0, 2], [3, 1])
+FILLER = Part(2, [(0, 1, (2, 0), 1, 2)], [0], [1])
+COSTLY = Part(2, [(0, 1, (0, 1), 1, 0)], [0], [1])
+NET = ([(0, 0, 1, 0)], [[(0, 0)]], [[(1, 0)]])
+BARS = {0: [(0, 0)], 1: [(1, 1)], 2: [(0, 4), (2, 1)]}
+RATES_FORM = [([(2, 0, 1)], [[(0, 4, 1), (2, 1, 2)]])]
+STAIRS_FORM = [[[(1, -1), (4, 1), (9, None)]]]
+SHOWN = {("again", (2, 0, 1), (0, 2, 1)): 3}
+CALLS += [
+    (kinds.worth_in, (part_p(), "rates", (0, [(0, 0, (0, 0), 1, 0)], (4, 2)))),
+    (kinds.worth_in, (WALKED, "on", (0, [(0, 0, (0, 0), 1, 2)], [(0, 9)], 1))),
+    (kinds.worth_in, (part_p(), "budgets", (0, 0, (None, 1)))),
+    (kinds.form, (part_p(), "rates")), (kinds.form, (WALKED, "through")), (kinds.form, (WALKED, "on")),
+    (kinds.form, (MORE, "budgets")), (kinds.form, (MORE, "prices")), (kinds.alike, (part_p(), MORE, "prices")),
+    (kinds.apart, (part_p(), MORE, "rates")), (kinds.apart, (part_p(), MORE, "budgets")),
+    (kinds.never_worse, (WALKED, LESS, "on")), (kinds.worse_in, (LESS, WALKED, "on")),
+    (kinds.worse_in, (part_p(), MORE, "rates")), (kinds.papers, (MORE, part_p(), "rates")),
+    (kinds.papers, (WALKED, LESS, "through")), (kinds.papers, (MORE, part_p(), "budgets")),
+    (kinds.papers, (part_p(), MORE, "prices")),
+    (kinds.are_papers, (part_p(), MORE, "prices", [[[{(0, 4): 1}, {(2, 1): 2}]]])),
+    (fronts.pass_within, (part_p(), 0, 0, (2, None))), (fronts.bars, (part_p(), 0, 0, (1, 3))),
+    (fronts.is_bars, (part_p(), 0, 0, (1, 3), BARS)), (fronts.pass_upto, (part_p(), 0, 0, (1, 1), 3)),
+    (fronts.heights_over, (part_p(), 0, 0, (1, 1), 2)), (nets.wired, ([STEPPED, part_p()], *NET)),
+    (nets.behind, (STEPPED, part_p())), (nets.either, (STEPPED, part_p())), (nets.again, (part_p(), 0, 0)),
+    (pieces.pass_of, ([STEPPED, part_p()], *NET, 0, 0, [(0, 0, 0, [(0, 1, (1, 0), 1, 0)]), (1, 0, 0, [P_STEPS[3]])])),
+    (pieces.pieces_of, ([STEPPED, STEPPED], *NET, [(4, 2, (1, 0), 1, 0), (2, 5, (1, 0), 1, 0)])),
+    (formparts.is_form, (RATES_FORM, "rates")), (formparts.the_part, (RATES_FORM, "rates")),
+    (putting.put_together, ([RATES_FORM, RATES_FORM], "rates", *NET)),
+    (putting.worth_by, (STAIRS_FORM, "through", (0, 0, 4, 5))), (copies.often, (RATES_FORM, "rates", 3)),
+    (copies.often, (STAIRS_FORM, "through", 3)), (copies.often_out, (STAIRS_FORM, 5, 4)),
+    (copies.how_often, (STAIRS_FORM, 3)), (longchains.often_costs, (RATES_FORM, 3, (1, 1), (2, 2))),
+    (longchains.often_worth, (RATES_FORM, 2, (0, [(0, 0, (0, 0), 1, 0)], (1, 1)))), (holes.filled, (HOLE, FILLER)),
+    (holes.keeps, (HOLE, "through", (1, 4), FILLER)), (holes.asked, (HOLE, "rates", (1, 1, 1))),
+    (holes.asked, (HOLE, "budgets", (5, 4))), (holes.enough, (HOLE, "prices", (3, 2), (1, 1))),
+    (holes.shown, (HOLE, "rates", (1, 1, 1), FILLER)), (holes.short_at, (HOLE, "rates", (1, 1, 1), COSTLY)),
+    (holes.is_shown, (HOLE, "rates", (1, 1, 1), FILLER, SHOWN)),
+    (learning.learned_stairs, (lambda stock, wanted: wanted <= stock - 2, 8, 3)),
+    (slices.slice_of, (RATES_FORM, 0, 0, (1, 1))), (slices.learned_slice, (lambda way: (2, 1), 4, 9))]
 
 
 def turned(thing):

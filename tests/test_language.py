@@ -40,7 +40,23 @@ INTERFACE = {
                "is_safe(web, thing)", "longest(web, place, stock)", "long_walk(web, place, stock)"],
     "stairs": ["most_out(web, place, other, stock)", "stairs(web, place, other)",
                "way_out(web, place, other, stock, wanted)", "covers(web, place, stock)",
-               "is_cover(web, place, stock, thing)"]}
+               "is_cover(web, place, stock, thing)"],
+    "kinds": ["worth_in(part, kind, surrounding)", "form(part, kind)", "alike(one, other, kind)",
+              "apart(one, other, kind)", "never_worse(one, other, kind)", "worse_in(one, other, kind)",
+              "papers(one, other, kind)", "are_papers(one, other, kind, thing)"],
+    "fronts": ["pass_within(part, i, j, budget)", "bars(part, i, j, budget)", "is_bars(part, i, j, budget, thing)",
+               "pass_upto(part, i, j, prices, bound)", "heights_over(part, i, j, prices, bound)"],
+    "nets": ["wired(parts, links, ins, outs)", "behind(one, other)", "either(one, other)", "again(part, out, door)"],
+    "pieces": ["pass_of(parts, links, ins, outs, k, l, pieces)", "pieces_of(parts, links, ins, outs, walk)"],
+    "formparts": ["is_form(thing, kind)", "the_part(form, kind)"],
+    "putting": ["put_together(forms, kind, links, ins, outs)", "worth_by(form, kind, surrounding)"],
+    "copies": ["often(form, kind, many)", "often_out(form, many, stock)", "how_often(form, stock)"],
+    "longchains": ["often_costs(form, many, prices, rate)", "often_worth(form, many, surrounding)"],
+    "holes": ["filled(context, filler)", "keeps(context, kind, wish, filler)", "asked(context, kind, wish)",
+              "enough(context, kind, wish, row)", "shown(context, kind, wish, filler)",
+              "short_at(context, kind, wish, filler)", "is_shown(context, kind, wish, filler, thing)"],
+    "learning": ["learned_stairs(box, most, gain)"],
+    "slices": ["slice_of(form, i, j, prices)", "learned_slice(box, ticks, cost)"]}
 CLASSES = {"Web": ["places", "steps", "__eq__"], "Part": ["web", "ins", "outs", "__eq__"]}
 
 
@@ -53,7 +69,8 @@ def module_of(path):
 
 
 def bound(tree):
-    return {node.name for node in tree.body if isinstance(node, (ast.FunctionDef, ast.ClassDef))}
+    return {node.name for node in tree.body if isinstance(node, (ast.FunctionDef, ast.ClassDef))} | {
+        target.id for node in tree.body if isinstance(node, ast.Assign) for target in node.targets}
 
 
 def imports(tree):
@@ -143,6 +160,9 @@ class LanguageTest(unittest.TestCase):
             for node in ast.walk(tree):
                 if not isinstance(node, ast.Call):
                     continue
+                for one in node.args:
+                    if isinstance(one, ast.Starred):
+                        self.assertIsInstance(one.value, ast.Name, node.lineno)
                 if isinstance(node.func, ast.Attribute):
                     self.assertIn(node.func.attr, METHODS | own, node.lineno)
                     self.assertNotEqual(node.func.attr, "sort")

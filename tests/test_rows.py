@@ -185,5 +185,33 @@ class MixesTest(unittest.TestCase):
             function(web=web, place=2, row=[3, 0, 1])
 
 
+class ManyRowsTest(unittest.TestCase):
+    STEPS = [(0, 0, (0, 6), 5, -3), (0, 1, (0, -1), 1, 9), (0, 2, (8, -8), 1, 0), (1, 0, (5, -3), 1, 0), (1, 0, (6, -7), 3, 0),
+             (1, 1, (9, -4), 1, -9), (1, 2, (-8, 3), 1, 9), (1, 2, (-1, -6), 1, 9), (1, 2, (0, -4), 4, -3), (2, 0, (9, -3), 3, 0),
+             (2, 1, (3, -6), 4, -9), (2, 1, (3, -5), 3, 0), (2, 1, (5, 4), 1, 9), (2, 1, (7, -7), 3, 1)]
+
+    def test_just_one_of_each_row(self):
+        web = Web(3, self.STEPS)
+        told = rows_of(web, 1)
+        self.assertIn((17, -11, 4), told)
+        best = best_rows(Web(3, self.STEPS), 1)
+        self.assertEqual(best_rows(web, 1), best)
+        for row in told:
+            prices, mix = prices_for(web, 1, row), mix_under(web, 1, row)
+            self.assertNotEqual(prices is None, mix is None)
+            self.assertEqual((prices_for(Web(3, self.STEPS[::-1]), 1, list(row)), mix_under(Web(3, self.STEPS), 1, row)),
+                             (prices, mix))
+            if prices is not None:
+                self.assertTrue(all(rate(prices, row) <= rate(prices, other) for other in told))
+            else:
+                self.assertTrue(len(mix) <= 2 and all(one in best for one in mix))
+                self.assertTrue(all(one <= other for one, other in zip(mean(mix), per_tick(row))))
+                self.assertNotEqual(mean(mix), per_tick(row))
+                mix.clear()
+                self.assertTrue(mix_under(web, 1, row))
+        told.clear()
+        self.assertEqual(len(rows_of(web, 1)), len(rows_of(Web(3, self.STEPS), 1)))
+
+
 if __name__ == "__main__":
     unittest.main()

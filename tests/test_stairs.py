@@ -69,6 +69,52 @@ class StairsTest(unittest.TestCase):
                     self.assertEqual(by_stairs(told, stock), most)
                     self.check_way(web, place, other, stock, most)
 
+    def test_long_ways(self):
+        # Rings that gain little, and much that is wanted; and one that gains 9 and loses 8 on its way.
+        steps = [(0, 4, 0), (1, 2, 1), (2, 3, 0), (3, 5, 0), (4, 1, 0), (5, 0, 0)]
+        little = Web(6, changing(*steps))
+        losing = Web(6, changing(*[(one, other, {(1, 2): 9, (4, 1): -8}.get((one, other), 0)) for one, other, _ in steps]))
+        for web, stock, wanted in [(little, 0, 1000), (losing, 8, 1000), (losing, 0, 1000), (losing, 1, 1),
+                                   (little, 1000, 1001), (little, 0, 10 ** 5)]:
+            walk = way_out(web, 1, 1, stock, wanted)
+            self.assertTrue(type(walk) is list and is_walk(web, walk))
+            self.assertTrue(walk == [] or walk[0][0] == 1 and walk[-1][1] == 1)
+            self.assertTrue(can_go(walk, stock))
+            self.assertGreaterEqual(stock + change(walk), wanted)
+            self.assertEqual(way_out(web, 1, 1, stock, wanted), walk)
+            many = len(walk)
+            walk.clear()
+            self.assertEqual(len(way_out(web, 1, 1, stock, wanted)), many)
+        self.assertEqual(way_out(little, 1, 1, 1000, 1000), [])
+        # Round the ring and then on, by a way that loses.
+        web = Web(4, changing((0, 1, -2), (1, 1, 1), (1, 2, -50), (2, 3, 7), (2, 2, -1)))
+        self.assertEqual(stairs(web, 0, 3), [(2, None)])
+        walk = way_out(web, 0, 3, 2, 900)
+        self.assertTrue(is_walk(web, walk) and can_go(walk, 2) and walk[-1][1] == 3 and 2 + change(walk) >= 900)
+        self.assertIsNone(way_out(web, 0, 3, 1, 0))
+
+    def test_many_ways(self):
+        random = Random(74)
+        for web in random_webs(75, 60, change=5):
+            for _ in range(20):
+                place, other = random.randrange(web.places()), random.randrange(web.places())
+                stock, wanted = random.randint(0, 30), random.choice([0, 3, 20, 1000])
+                most = most_by_search(web, place, stock).get(other, -1)
+                walk = way_out(web, place, other, stock, wanted)
+                self.assertEqual(walk is None, most is not None and most < wanted)
+                if walk is not None:
+                    self.assertTrue(is_walk(web, walk) and can_go(walk, stock))
+                    self.assertEqual(walk[0][0] if walk else other, place)
+                    self.assertTrue((walk[-1][1] if walk else place) == other and stock + change(walk) >= wanted)
+
+    def test_great_numbers(self):
+        web = Web(3, changing((0, 1, -10 ** 6), (1, 0, 10 ** 6 + 1), (1, 2, -10 ** 9), (0, 0, -1)))
+        self.assertEqual(stairs(web, 0, 2), [(10 ** 6, None)])
+        self.assertEqual(stairs(web, 1, 2), [(0, None)])
+        web = Web(3, changing((0, 0, 1), (0, 1, -10 ** 6), (1, 2, 0), (1, 1, 5), (0, 2, -3)))
+        self.assertEqual(stairs(web, 0, 2), [(0, None)])
+        self.assertEqual(stairs(web, 1, 2), [(0, None)])
+
     def check_form(self, pairs):
         needs = [one[0] for one in pairs]
         gains = [one[1] for one in pairs]
