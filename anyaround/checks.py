@@ -22,7 +22,12 @@ def is_list(thing):
 
 def is_integers(thing, many):
     """Whether a thing is a list of just so many integers."""
-    return is_list(thing) and len(thing) == many and all([is_integer(part) for part in thing])
+    if not is_list(thing) or len(thing) != many:
+        return False
+    for part in thing:
+        if not isinstance(part, int) or isinstance(part, bool):
+            return False
+    return True
 
 
 def undivided(integers):

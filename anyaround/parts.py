@@ -91,15 +91,20 @@ def read_ways(ins, outs, things):
     return list(found), None
 
 
-def closed(part, ways):
-    """The web of a part and of steps for ways back around it."""
+def closed_steps(part, ways):
+    """The steps of a part and those for ways back around it, where these were read."""
     ins = part.ins()
     outs = part.outs()
-    found, wrong = read_ways(len(ins), len(outs), ways)
-    if wrong is not None:
-        raise BadWays(wrong)
     # Steps that come out alike are one.
     steps = {step: True for step in part.web().steps()}
-    for way in found:
-        steps[(outs[way[0]], ins[way[1]], way[2], way[3], way[4])] = True
-    return Web(part.web().places(), list(steps))
+    for out, door, amounts, ticks, change in ways:
+        steps[(outs[out], ins[door], amounts, ticks, change)] = True
+    return list(steps)
+
+
+def closed(part, ways):
+    """The web of a part and of steps for ways back around it."""
+    found, wrong = read_ways(len(part.ins()), len(part.outs()), ways)
+    if wrong is not None:
+        raise BadWays(wrong)
+    return Web(part.web().places(), closed_steps(part, found))

@@ -173,7 +173,9 @@ def cost_of(prices, amounts):
 def weights_above(steps, prices, rate):
     """What each step costs above a rate, as often as the bottom of the rate tells."""
     top, bottom = rate
-    return [bottom * cost_of(prices, step[2]) - top * step[3] for step in steps]
+    first = bottom * prices[0]
+    second = bottom * prices[1]
+    return [first * step[2][0] + second * step[2][1] - top * step[3] for step in steps]
 
 
 def row_along(walk):

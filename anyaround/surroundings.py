@@ -4,7 +4,7 @@ from anyaround.checks import is_integer, is_integers, is_list, is_number, undivi
 from anyaround.climbs import most_by, stairs_to
 from anyaround.errors import BadKind
 from anyaround.fronts import front_of, is_within, read_bounds
-from anyaround.parts import closed, read_ways
+from anyaround.parts import closed_steps, read_ways
 from anyaround.searches import cheapest_ring, cost_of, row_along
 from anyaround.stands import most_stocks
 
@@ -97,7 +97,7 @@ def goes_on(steps, most):
 
 def rates_worth(part, door, ways, prices):
     """The least rate at prices of the rings that one can come to from an in door, None if there are none."""
-    ring = cheapest_ring(closed(part, ways).steps(), part.ins()[door], prices)
+    ring = cheapest_ring(closed_steps(part, ways), part.ins()[door], prices)
     if ring is None:
         return None
     row = row_along(ring)
@@ -106,7 +106,7 @@ def rates_worth(part, door, ways, prices):
 
 def on_worth(part, door, ways, ends, stock):
     """Whether one can go on for ever, within or outside, who comes in with a stock."""
-    steps = closed(part, ways).steps()
+    steps = closed_steps(part, ways)
     most = most_stocks(steps, part.ins()[door], stock)
     if goes_on(steps, most):
         return True

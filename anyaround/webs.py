@@ -1,6 +1,6 @@
 """Webs, and the walks and rings in them."""
 
-from anyaround.checks import check_place, is_integer, is_integers, is_list
+from anyaround.checks import check_place, is_integer, is_list
 from anyaround.errors import BadPlaces, BadSteps, BadWalk
 from anyaround.searches import come_to, lots_of, row_along
 
@@ -33,8 +33,11 @@ def read_step(places, thing):
     if not is_list(thing) or len(thing) != 5:
         return None
     one, other, amounts, ticks, change = thing
-    if not is_integers([one, other, ticks, change], 4) or not is_integers(amounts, 2):
+    if not is_list(amounts) or len(amounts) != 2:
         return None
+    for number in (one, other, amounts[0], amounts[1], ticks, change):
+        if not isinstance(number, int) or isinstance(number, bool):
+            return None
     if one < 0 or one >= places or other < 0 or other >= places or ticks < 1:
         return None
     return one, other, tuple(amounts), ticks, change
