@@ -37,12 +37,11 @@ def door_form(part, kind, i):
         return pass_rows(part, i)
     if kind == "on":
         return stay_and_stairs(part, i)
-    outs = range(len(part.outs()))
+    outs = len(part.outs())
     if kind == "through":
-        return [stairs_between(part, i, j) for j in outs]
-    if kind == "budgets":
-        return [front_of(part, i, j) for j in outs]
-    return [hull_of(front_of(part, i, j)) for j in outs]
+        return [stairs_between(part, i, j) for j in range(outs)]
+    fronts = [front_of(part, i, j) for j in range(outs)]
+    return fronts if kind == "budgets" else [hull_of(front) for front in fronts]
 
 
 def form_of(part, kind):

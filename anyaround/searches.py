@@ -96,7 +96,8 @@ def come_back(back, start, taken):
     seen = {start: True}
     todo = [start]
     while todo:
-        for other in back.get(todo.pop(), []):
+        place = todo.pop()
+        for other in back.get(place, []):
             if other not in seen and other not in taken:
                 seen[other] = True
                 found.append(other)

@@ -99,10 +99,8 @@ def points_on(way, rate, bounds):
 
 def corner_by(answers, line, way, answer, bounds):
     """The corner that an answer shows, which is not what the known corners tell."""
-    # All ways that are asked are so long that one point at most lies there.
+    # All ways that are asked are so long that one point at most lies there; without one the answer itself is not met.
     found = [] if answer is None else points_on(way, answer, bounds)
-    if not found:
-        raise Unfit(way)
     for other, told in answers.items():
         if other is not None and worth_by_corners(answers[None], line + found, other) != told:
             raise Unfit(way)

@@ -58,13 +58,8 @@ def on_worse(one, other):
 
 def on_papers(one, other):
     """What shows that the one form is never worse than the other one, where it is so."""
-    found = []
-    for (stay, mine), (_, theirs) in zip(one, other):
-        shown = []
-        for pairs, targets in zip(mine, theirs):
-            shown.append([None if can_stay(stay, target[0]) else number_as_good(pairs, target) for target in targets])
-        found.append(shown)
-    return found
+    # Where no pair is as good one can stay.
+    return through_papers([passes for _, passes in one], [passes for _, passes in other])
 
 
 def is_number_of(pairs, target, thing):

@@ -103,6 +103,20 @@ class KeepsTest(unittest.TestCase):
         self.assertIs(keeps(C, "rates", (4, 0, 1), EMPTY), True)
         self.assertIs(keeps(C, "rates", (3, 100, 1), EMPTY), False)
 
+    def test_stays(self):
+        # In the filler with 2, in the context behind with 4, or round and back.
+        for stay, told in [(1, True), (2, True), (3, False)]:
+            filler = Part(3, [(0, 2, (0, 0), 1, -stay), (2, 2, (0, 0), 1, 0)], [0], [1])
+            self.assertIs(keeps(C, "on", 1, filler), told)
+            self.assertIs(keeps(C, "on", 0, filler), stay == 1)
+        behind = changed(C, (2, 2, (0, 0), 1, -3), (2, 2, (0, 0), 1, 0))
+        self.assertEqual(asked(behind, "on", 1), (2, 0))
+        behind = changed(C, C_STEPS[2], (2, 3, (0, 0), 1, -3), (3, 3, (0, 0), 1, 0))
+        self.assertEqual(asked(behind, "on", 1), (2, 0))
+        behind = changed(C, C_STEPS[2], C_STEPS[3], (2, 3, (0, 0), 1, -3), (3, 3, (0, 0), 1, 0))
+        self.assertEqual(asked(behind, "on", 1), (2, 3))
+        self.assertEqual([keeps(behind, "on", 1, with_row("on", (2, gain))) for gain in (0, 1)], [False, True])
+
     def test_by_the_whole(self):
         for kind in KINDS:
             for _, context, wish, filler in drawn(181, 40, kind):

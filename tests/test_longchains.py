@@ -140,6 +140,22 @@ class WorthTest(unittest.TestCase):
         self.assertEqual(often_worth(one, GREAT + 1, (0, [(1, 0, (0, 0), 1, 0)], (1, 1))),
                          lowest((6 * GREAT + 2, GREAT + 2)))
 
+    def test_three_doors(self):
+        # From door to door, a part further each time: the ring in the third one is come to behind two parts.
+        part = Part(7, [(0, 4, (1, 1), 1, 0), (1, 5, (2, 2), 1, 0), (2, 3, (3, 3), 1, 0), (2, 6, (0, 0), 1, 0),
+                        (6, 6, (5, 5), 1, 0)], [0, 1, 2], [3, 4, 5])
+        one = form(part, "rates")
+        self.assertEqual([often_worth(one, many, (0, [], (1, 1))) for many in (1, 2, 3, GREAT)], [None, None, (10, 1), (10, 1)])
+        self.assertEqual(often_worth(one, 2, (1, [], (1, 1))), (10, 1))
+        self.assertEqual(often_costs(one, 3, (1, 1), (0, 1)), [[12, None, None], [None, 12, None], [None, None, 12]])
+        chain = part
+        for many in range(1, 6):
+            for door in range(3):
+                for ways in [[], [(0, 0, (0, 0), 1, 0)], [(1, 2, (-2, 0), 2, 0)], [(2, 0, (0, 1), 1, 0), (0, 1, (0, 0), 3, 0)]]:
+                    around = (door, ways, (1, 1))
+                    self.assertEqual(often_worth(one, many, around), worth_in(chain, "rates", around))
+            chain = behind(chain, part)
+
     def test_many_and_more(self):
         random = Random(173)
         for _ in range(20):

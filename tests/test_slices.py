@@ -5,6 +5,7 @@ from random import Random
 
 from anyaround.errors import BadAnswer, BadCost, BadDoor, BadForm, BadPrices, BadTicks, Unfit
 from anyaround.kinds import form, worth_in
+from anyaround.parts import Part
 from anyaround.slices import learned_slice, slice_of
 
 from tests.brute import cost, non_integers, objects, part_p
@@ -98,6 +99,19 @@ class SliceTest(unittest.TestCase):
                     self.assertEqual(worth_in(part, "rates", (i, [back], prices)),
                                      worth_of(found, (cost(prices, way), back[3])))
                     self.assertEqual(len(costs), len(found[1]))
+
+    def test_many_rows(self):
+        random = Random(205)
+        longest = 0
+        for _ in range(80):
+            steps = {(0, 1, (random.randint(-20, 20), random.randint(-20, 20)), random.randint(1, 12), 0) for _ in range(25)}
+            rings = {(0, 0, (random.randint(3, 9), random.randint(3, 9)), 2, 0) for _ in range(random.randint(0, 2))}
+            told = form(Part(2, list(steps | rings), [0], [1]), "rates")
+            for prices in [(1, 1), (3, 1), (1, 5)]:
+                found = slice_of(told, 0, 0, prices)
+                self.assertEqual(found, plain_slice(told[0][0], told[0][1][0], prices))
+                longest = max(longest, len(found[1]))
+        self.assertGreater(longest, 4)
 
     def test_errors(self):
         for thing in objects() + WRONG["rates"]:
