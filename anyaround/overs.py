@@ -94,8 +94,6 @@ def stretch(overs):
 def greatest_points(rays, points):
     """Those of points that come, somewhere between two rays, to more than all others, ascending."""
     turned = [(0 - first, 0 - second, 0) for first, second in points]
-    if not turned:
-        return []
     found = least_points(rays, lambda ray: least_of(turned, ray))
     return sorted([(0 - first, 0 - second) for first, second, _ in found])
 

@@ -106,13 +106,11 @@ def pass_rows(part, door):
 
 def counting(points, rows):
     """The ascending list of those points that count where these are all rows that are alone."""
-    if not points:
-        return []
     return least_points(inside(rows, spread_of(points)), lambda ray: least_of(points, ray))
 
 
 def least_of(points, ray):
-    """The first of points that is least at a ray."""
+    """The first of points that is least at a ray, None if there are no points."""
     best = None
     least = None
     for point in points:

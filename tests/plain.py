@@ -1,6 +1,7 @@
 """Plain, slow answers about parts, of each kind, with which the tests compare."""
 
 from fractions import Fraction
+from math import gcd
 from random import Random
 
 from anyaround.parts import Part, closed
@@ -35,22 +36,34 @@ def passes(part, i, j):
 
 
 def feasible(planes):
-    """Whether some point comes with each of planes, lists of numbers, to more than 0, by taking out one after another."""
+    """Whether some point comes with each of planes, lists of integers, to more than 0: numbers are taken out till two are left."""
     planes = {tuple(plane) for plane in planes}
-    width = len(next(iter(planes)))
-    for k in range(width):
-        up = [plane for plane in planes if plane[k] > 0]
-        down = [plane for plane in planes if plane[k] < 0]
-        more = {plane for plane in planes if plane[k] == 0}
-        for one in up:
-            for other in down:
-                new = [x * -other[k] + y * one[k] for x, y in zip(one, other)]
-                size = max(abs(x) for x in new) or 1
-                more.add(tuple(Fraction(x, 1) / size for x in new))
+    while len(next(iter(planes))) > 2:
+        more = {plane[:-1] for plane in planes if plane[-1] == 0}
+        for one in planes:
+            for other in planes:
+                if one[-1] > 0 > other[-1]:
+                    new = [x * -other[-1] + y * one[-1] for x, y in zip(one[:-1], other[:-1])]
+                    common = gcd(*new) or 1
+                    more.add(tuple(x // common for x in new))
         planes = more
         if not planes:
             return True
-    return False
+    return any(on_a_line(planes, x) for x in (1, 0, -1))
+
+
+def on_a_line(planes, x):
+    """Whether for some y the point (x, y) comes with each of planes, pairs of integers, to more than 0."""
+    low, high = None, None
+    for a, b in planes:
+        if b == 0:
+            if a * x <= 0:
+                return False
+        elif b > 0:
+            low = Fraction(-a * x, b) if low is None else max(low, Fraction(-a * x, b))
+        else:
+            high = Fraction(-a * x, b) if high is None else min(high, Fraction(-a * x, b))
+    return low is None or high is None or low < high
 
 
 def inside_planes(rings):
@@ -74,7 +87,6 @@ def best_of(rows):
 
 def lowest(row):
     """A row without a common divisor."""
-    from math import gcd
     common = gcd(*row)
     return tuple(x // common for x in row)
 

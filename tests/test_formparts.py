@@ -13,7 +13,8 @@ from tests.test_everywhere import turned
 ROWS = [(0, 3, 1), (1, 1, 1), (3, 0, 1)]
 GOOD = {
     "rates": [[([(2, 0, 1)], [[(0, 4, 1), (2, 1, 2)]])], [([], [[]])], [(ROWS, [[], []]), ([], [[(0, 0, 1)], [(-3, 5, 2)]])],
-              [([(-1, 0, 2), (0, -1, 3)], [[(-7, -7, 9)]])], [([], [[(0, 0, 2), (3, 3, 5)]])], [([(0, 0, 1)], [[(0, 0, 1)]])]],
+              [([(-1, 0, 2), (0, -1, 3)], [[(-7, -7, 9)]])], [([], [[(0, 0, 2), (3, 3, 5)]])], [([(0, 0, 1)], [[(0, 0, 1)]])],
+              [([], [[(-9, -9, 2), (9, 9, 1)]])], [([], [[(-9, 9, 1), (9, -9, 2)]])]],
     "through": [[[[]]], [[[(1, -1), (3, 2), (5, None)]]], [[[(0, 0)], []], [[(7, None)], [(7, -7), (8, -6)]]], [[[(0, None)]]]],
     "on": [[(None, [[]])], [(0, [[]])], [(5, [[(1, -1), (3, 2)]])], [(None, [[(1, -1), (30, 2)], []]), (2, [[(1, 9)], []])]],
     "budgets": [[[[]]], [[[(0, 4), (1, 3), (2, 1)]]], [[[(0, 0)], [(5, 0)]], [[], [(0, 2), (1, 1), (2, 0)]]]],
@@ -86,12 +87,27 @@ class FormTest(unittest.TestCase):
         both = {True: 0, False: 0}
         for _ in range(150):
             rows = sorted({(random.randint(-5, 5), random.randint(-5, 5), random.randint(1, 4))
-                           for _ in range(random.randint(1, 4))})
+                           for _ in range(random.choice([1, 2, 3, 4, 9]))})
             best = [random.choice([(1, 1, 1), (2, -1, 3), (0, 0, 1)])] if random.random() < 0.6 else []
             told = is_form([(best, [rows])], "rates")
             self.assertEqual(told, counting_rows(rows, best) == rows)
             both[told] += 1
         self.assertTrue(min(both.values()) > 20)
+
+    def test_many_points(self):
+        # Points on a bowl are least somewhere, each of them; those inside are nowhere.
+        bowl = [(a, b, 40 - 6 * a - 7 * b + a * a + b * b + a * b) for a in range(-3, 4) for b in range(-3, 4)]
+        low = min(row[2] for row in bowl)
+        bowl = sorted((a, b, c - low + 1) for a, b, c in bowl)
+        for best in [[], [(1, 1, 1)], [(0, 3, 1), (1, 1, 1), (3, 0, 1)], [(-1, 2, 2)]]:
+            told = [row for row in bowl if row in counting_rows(bowl, best)]
+            self.assertTrue(is_form([(best, [told])], "rates"))
+            if len(told) < len(bowl):
+                self.assertFalse(is_form([(best, [bowl])], "rates"))
+            for row in told[::3]:
+                worse = (row[0] + 1, row[1] + 1, row[2])
+                if worse not in told:
+                    self.assertFalse(is_form([(best, [sorted(told + [worse])])], "rates"))
 
     def test_bad_kind(self):
         for thing in objects():

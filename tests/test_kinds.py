@@ -87,6 +87,14 @@ class WorthTest(unittest.TestCase):
         self.assertIs(worth_in(V, "on", (0, [way], [(0, 900)], 1)), True)
         self.assertIs(worth_in(V, "on", (0, [(0, 0, (0, 0), 1, 0)], [(0, 2)], 2)), False)
 
+    def test_rings_that_lose_nothing(self):
+        ring = Part(4, [(0, 1, (0, 0), 1, -2), (1, 0, (0, 0), 1, 2), (0, 2, (0, 0), 1, 0), (2, 2, (0, 0), 1, -1)], [0], [3])
+        self.assertEqual([worth_in(ring, "on", (0, [], [], stock)) for stock in range(4)], [False, False, True, True])
+        back = Part(3, [(0, 1, (0, 0), 1, 3), (1, 2, (0, 0), 1, -5)], [0], [2])
+        for change, told in [(1, False), (2, True), (3, True)]:
+            self.assertIs(worth_in(back, "on", (0, [(0, 0, (0, 0), 1, change)], [], 2)), told)
+        self.assertIs(worth_in(back, "on", (0, [(0, 0, (0, 0), 1, 2)], [], 1)), False)
+
     def test_costs(self):
         p = part_p()
         for budget, told in [((2, 1), True), ((1, 3), False), ((None, 1), True), ((1, None), True), ((None, 0), False),
@@ -227,6 +235,16 @@ class FormTest(unittest.TestCase):
                 self.assertTrue(same(told, plain_form(one, kind)), (kind, one.web().steps(), one.ins(), one.outs()))
                 form(one, kind).clear()
                 self.assertEqual(form(one, kind), told)
+
+    def test_later_ways(self):
+        # What is cheaper by a place further off is cheaper behind it, too.
+        steps = [(0, 1, (9, 9), 1, 0), (0, 2, (0, 0), 1, 0), (2, 1, (0, 1), 1, 0), (1, 3, (1, 0), 1, 0), (3, 4, (0, 0), 1, 0)]
+        part = Part(5, steps, [0], [4])
+        self.assertEqual(form(part, "rates"), [([], [[(1, 1, 4), (10, 9, 3)]])])
+        random = Random(8)
+        for _ in range(60):
+            part = random_part(random, 1, 1, places=6, steps=random.randint(11, 15), amount=9, ticks=3)
+            self.assertEqual(form(part, "rates"), plain_form(part, "rates"))
 
     def test_many_passes(self):
         random = Random(7)
@@ -378,6 +396,14 @@ class PapersTest(unittest.TestCase):
                       [([{(0, 6): 1, (6, 0): 1}], [[row]])], [([under], [[row]], 0)], [under, [[row]]], [([row], [[under]])],
                       [([None], [[row]])], [([under], [[None]])], [([under], None)], [(None, [[row]])], None, 7, "ab"]:
             self.assertIs(are_papers(one, other, "rates", wrong), False, wrong)
+
+    def test_rates_by_1(self):
+        one, other = [Part(2, [(0, 1, (first, 0), 1, 0)], [0], [1]) for first in (1, 0)]
+        self.assertFalse(are_papers(one, other, "rates", [([], [[{(1, 0, 1): 1}]])]))
+        self.assertTrue(are_papers(other, one, "rates", [([], [[{(0, 0, 1): 1}]])]))
+        one, other = [Part(2, [(0, 0, (0, first), 1, 0)], [0], [1]) for first in (1, 0)]
+        self.assertFalse(are_papers(one, other, "rates", [([{(0, 1, 1): 1}], [[]])]))
+        self.assertTrue(are_papers(other, one, "rates", [([{(0, 0, 1): 1}], [[]])]))
 
     def test_three_rows_at_once(self):
         rows = [(0, 9, 2), (9, 0, 2), (0, 0, 11)]

@@ -93,6 +93,15 @@ class StairsTest(unittest.TestCase):
         self.assertTrue(is_walk(web, walk) and can_go(walk, 2) and walk[-1][1] == 3 and 2 + change(walk) >= 900)
         self.assertIsNone(way_out(web, 0, 3, 1, 0))
 
+    def test_less_need_comes_later(self):
+        # A longer way that needs less, and gains less, than a shorter one; and one that beats it.
+        web = Web(5, changing((0, 1, -5), (1, 3, 8), (0, 2, -1), (2, 4, 0), (4, 3, 0)))
+        self.assertEqual(stairs(web, 0, 3), [(1, -1), (5, 3)])
+        web = Web(5, changing((0, 1, -5), (1, 3, 8), (0, 2, -1), (2, 4, 3), (4, 3, 1)))
+        self.assertEqual(stairs(web, 0, 3), [(1, 3)])
+        web = Web(5, changing((0, 1, -5), (1, 3, 8), (0, 2, -1), (2, 4, 3), (4, 3, 0)))
+        self.assertEqual(stairs(web, 0, 3), [(1, 2), (5, 3)])
+
     def test_many_ways(self):
         random = Random(74)
         for web in random_webs(75, 60, change=5):
