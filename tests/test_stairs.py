@@ -5,8 +5,8 @@ from anyaround.errors import BadPlace, BadStock, BadWanted
 from anyaround.stairs import covers, is_cover, most_out, stairs, way_out
 from anyaround.webs import Web, is_walk
 
-from tests.brute import (V_STEPS, can_go, change, most_by_search, need, non_integers, objects, random_webs,
-                         simple_walks, web_v, web_w)
+from tests.brute import (V_STEPS, can_go, change, most_by_search, need, non_integers, objects, random_web,
+                         random_webs, simple_walks, web_v, web_w)
 
 
 def changing(*triples):
@@ -83,9 +83,11 @@ class StairsTest(unittest.TestCase):
             self.assertGreaterEqual(stock + change(walk), wanted)
             self.assertEqual(way_out(web, 1, 1, stock, wanted), walk)
             many = len(walk)
+            self.assertLessEqual(many, 6 * max(0, wanted - stock))
             walk.clear()
             self.assertEqual(len(way_out(web, 1, 1, stock, wanted)), many)
         self.assertEqual(way_out(little, 1, 1, 1000, 1000), [])
+        self.assertLessEqual(len(way_out(Web(1, changing((0, 0, 5))), 0, 0, 0, 1000)), 200)
         # Round the ring and then on, by a way that loses.
         web = Web(4, changing((0, 1, -2), (1, 1, 1), (1, 2, -50), (2, 3, 7), (2, 2, -1)))
         self.assertEqual(stairs(web, 0, 3), [(2, None)])
@@ -101,6 +103,33 @@ class StairsTest(unittest.TestCase):
         self.assertEqual(stairs(web, 0, 3), [(1, 3)])
         web = Web(5, changing((0, 1, -5), (1, 3, 8), (0, 2, -1), (2, 4, 3), (4, 3, 0)))
         self.assertEqual(stairs(web, 0, 3), [(1, 2), (5, 3)])
+
+    def test_needs_of_rings(self):
+        # What a ring needs hangs on the place where one comes into it, and on all of its steps.
+        steps = [(0, 1, -1), (1, 2, -5), (2, 0, 9)]
+        for place, need_there in [(0, 6), (1, 5), (2, 0)]:
+            web = Web(4, changing(*steps, (place, 3, 0)))
+            told = {start: stairs(web, start, 3) for start in range(3)}
+            self.assertEqual(told[place][-1], (need_there, None))
+            self.assertEqual([told[start][-1] for start in range(3)], [(6, None), (5, None), (0, None)])
+        self.assertEqual(stairs(Web(3, changing(*steps)), 0, 0), [(0, 0), (6, None)])
+        # Without a ring by a longer way that needs less than the ring.
+        web = Web(6, changing((0, 1, -5), (1, 1, 1), (1, 5, 0), (0, 2, -1), (2, 3, 0), (3, 4, 0), (4, 5, 0)))
+        self.assertEqual(stairs(web, 0, 5), [(1, -1), (5, None)])
+
+    def test_dense(self):
+        random = Random(76)
+        endless = 0
+        for k in range(150):
+            web = random_web(random, random.randint(3, 6), random.randint(8, 14), change=random.choice([1, 2, 4, 9]))
+            place, other = random.randrange(web.places()), random.randrange(web.places())
+            told = stairs(web, place, other)
+            self.check_form(told)
+            endless += bool(told) and told[-1] == (told[-1][0], None) and told[-1][0] > 0
+            stocks = {0, 2} | {stock for one in told for stock in (one[0] - 1, one[0])}
+            for stock in stocks - {-1}:
+                self.assertEqual(by_stairs(told, stock), most_by_search(web, place, stock).get(other, -1))
+        self.assertGreater(endless, 9)
 
     def test_many_ways(self):
         random = Random(74)
