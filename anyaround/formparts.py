@@ -28,15 +28,10 @@ def read_rows(thing):
 def read_best(thing):
     """Rows as a form has them, None for what is none."""
     rows = read_rows(thing)
-    # Those that are alone are found without a common divisor as they are with one, so this is looked for first.
-    if rows is None or not all([is_lowest(row) for row in rows]):
+    # Rows that have a common divisor can be alone, too, so this is looked for first.
+    if rows is None or any([undivided(row) != row for row in rows]):
         return None
-    return rows if len({row: True for row in rows}) == len(rows) and alone(rows) == rows else None
-
-
-def is_lowest(row):
-    """Whether a row has no common divisor above 1."""
-    return undivided(row) == row
+    return rows if alone(rows) == rows else None
 
 
 def read_stairs(thing):
