@@ -81,14 +81,16 @@ def row_back(came, place, end):
     return first, second, ticks
 
 
-def least_row(arrows, place, end, known):
-    """A function that tells of a ray the least row from a place to an end; known keeps what came of each ray."""
-    def least(ray):
-        if ray not in known:
-            known[ray] = least_came(arrows, place, ray)
-        return row_back(known[ray], place, end)
+def came_at(arrows, place, ray, known):
+    """The same as least_came, kept in known, as several ends ask for it."""
+    if ray not in known:
+        known[ray] = least_came(arrows, place, ray)
+    return known[ray]
 
-    return least
+
+def least_row(arrows, place, end, known):
+    """A function that tells of a ray the least row from a place to an end."""
+    return lambda ray: row_back(came_at(arrows, place, ray, known), place, end)
 
 
 def pass_rows(part, door):
