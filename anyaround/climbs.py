@@ -5,6 +5,8 @@ needs and gains (None without end: it goes round a ring that gains), the places 
 and the number of the climb behind that step, None if there is none.
 """
 
+from anyaround.blocks import need_and_sum
+
 
 def need_round(climbs, number, step):
     """The least stock with which one can go a step and then a climb, up to where the step begins."""
@@ -120,12 +122,7 @@ def round_and_rest(climbs, climb):
 
 def need_and_gain(walk):
     """The pair (need, gain) of a walk."""
-    need = 0
-    gain = 0
-    for step in walk:
-        gain = gain + step[4]
-        need = max(need, 0 - gain)
-    return need, gain
+    return need_and_sum([step[4] for step in walk])
 
 
 def walk_of_climb(climbs, climb, stock, wanted):

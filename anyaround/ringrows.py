@@ -40,7 +40,8 @@ def steps_round(steps, start):
 def one_further(ahead, start, layer, found):
     """Walks from start that are a step longer; those that close a ring are put into found.
 
-    A layer leads from the pairs (end, places come into, as bits) of simple walks to dicts of their sums.
+    A layer leads from the pairs (end, places come into, as bits) of simple walks to dicts from their sums to some walk
+    that has this sum, told as a pair: the walk without its last step, or None, and this step. found is such a dict.
     """
     longer = {}
     for (place, seen), sums in layer.items():
@@ -48,31 +49,39 @@ def one_further(ahead, start, layer, found):
             bit = 1 << step[1]
             if seen & bit:
                 continue
-            more = [(first + step[2][0], second + step[2][1], ticks + step[3]) for first, second, ticks in sums]
             kept = found if step[1] == start else longer.setdefault((step[1], seen | bit), {})
-            for row in more:
-                kept[row] = True
+            for (first, second, ticks), walk in sums.items():
+                kept[(first + step[2][0], second + step[2][1], ticks + step[3])] = (walk, step)
     return longer
 
 
-def rows_within(lot, steps):
-    """The rows of all rings of a lot, each once."""
+def rings_within(lot, steps):
+    """The dict from the rows of all rings of a lot to a ring with this row, told as one_further does."""
     found = {}
     for start in lot:
         # Each ring is looked for from its least place alone.
         ahead = steps_round(steps, start)
-        layer = {(start, 0): {(0, 0, 0): True}} if start in ahead else {}
+        layer = {(start, 0): {(0, 0, 0): None}} if start in ahead else {}
         while layer:
             layer = one_further(ahead, start, layer, found)
-    return list({undivided(row): True for row in found})
+    return {undivided(row): found[row] for row in found}
 
 
 def lot_rows(web, lot, steps):
-    """The rows of all rings of a lot of a web."""
+    """The rows of all rings of a lot of a web, a dict from each to a ring with this row, told as one_further does."""
     key = ("rows", lot[0])
     if key not in web.known:
-        web.known[key] = rows_within(lot, steps)
+        web.known[key] = rings_within(lot, steps)
     return web.known[key]
+
+
+def ring_told(walk):
+    """A ring as a list of its steps, of what one_further tells."""
+    ring = []
+    while walk is not None:
+        walk, step = walk
+        ring.append(step)
+    return list(reversed(ring))
 
 
 def rows_ahead(web, place):
@@ -138,7 +147,7 @@ def lot_line(web, lot, steps):
     key = ("line", lot[0])
     if key not in web.known:
         rows = web.known.get(("rows", lot[0]))
-        web.known[key] = line_within(steps) if rows is None else alone(rows)
+        web.known[key] = line_within(steps) if rows is None else alone(list(rows))
     return web.known[key]
 
 

@@ -4,8 +4,10 @@ import copy
 import inspect
 import unittest
 
-from anyaround import (copies, formparts, fronts, hadrates, holes, kinds, learning, longchains, nets, parts, passes, pieces,
-                       putting, rates, rows, slices, stairs, stocks, webs)
+from anyaround import (copies, formparts, fronts, hadrates, holes, houses, kinds, learning, legs, longchains, nets, parts,
+                       passes, pieces, plans, programforms, programparts, programs, putting, rates, rows, running, seeing,
+                       slices, stairs, stocks, sureworks, texts, thrifts, webs)
+from anyaround.errors import AroundError
 from anyaround.parts import Part
 from anyaround.webs import Web
 
@@ -73,6 +75,68 @@ CALLS += [
     (holes.is_shown, (HOLE, "rates", (1, 1, 1), FILLER, SHOWN)),
     (learning.learned_stairs, (lambda stock, wanted: wanted <= stock - 2, 8, 3)),
     (slices.slice_of, (RATES_FORM, 0, 0, (1, 1))), (slices.learned_slice, (lambda way: (2, 1), 4, 9))]
+WORKS = {"buy": ((1, 1), 1, 2), "cut": ((2, 0), 1, -1), "mill": ((0, 3), 2, 0)}
+BUILT = ("behind", ["buy", ("again", ("either", ["cut", "mill"]))])
+HOLED = ("behind", ["buy", ("hole",), "cut"])
+TWICE = ("either", [("often", 2, "cut"), ("often", 2, "mill")])
+EACH = ("behind", ["cut", "mill"])
+SURE = ({(("cut", 1), ("mill", 1)): ({(("mill", 2),): 3, (("cut", 2),): 3}, {})}, {})
+BOUGHT = (0, 2, (1, 1), 1, 2)
+LEGS = [([A], 1), ([C], 4), ([], 2), ([B, A], 2)]
+PLAN = (LEGS, [B, A])
+FOUND = ([0, 1], {(1, 1, 1): 2, (0, 3, 1): 1})
+RING_WEB = Web(3, [(0, 1, (5, 0), 1, 0), (1, 0, (5, 0), 1, 0), (1, 1, (1, 0), 1, -1), (0, 2, (0, 0), 1, -3),
+                   (2, 2, (6, 0), 1, 2), (2, 0, (0, 0), 1, 0)])
+PAPER = ({0: None, 1: None, 2: None}, {}, {0: (1, 12, {0: 0, 1: 0, 2: 18})})
+LOOPED = Part(2, [(0, 1, (1, 0), 1, 0), (0, 0, (0, 0), 1, 0)], [0], [1])
+
+
+def odd_and_even(place, sums):
+    """A chooser that answers lists."""
+    return [list(A), list(B), list(C)][place + (sums[1] % 3 == 1)]
+
+
+CALLS += [
+    (programs.is_program, (BUILT,)), (programs.is_run, (BUILT, ["buy", "mill", "cut"])),
+    (programs.is_beginning, (HOLED, ["buy", None])), (programs.run_apart, (BUILT, HOLED)),
+    (programs.put_in, (HOLED, TWICE)), (programparts.program_part, (HOLED, WORKS)),
+    (programparts.walk_of, (BUILT, WORKS, ["buy", "mill"])), (programparts.names_of, (BUILT, WORKS, [BOUGHT])),
+    (programforms.program_form, (("often", 10 ** 30, BUILT), WORKS, "rates")),
+    (programforms.program_form, (HOLED, WORKS, "on")), (sureworks.once_counts, (BUILT,)),
+    (sureworks.sure_papers, (TWICE, EACH, "rates")), (sureworks.parting_works, (EACH, TWICE, "rates")),
+    (sureworks.are_sure_papers, (TWICE, EACH, "rates", SURE)), (legs.is_legs, (web_w(), 0, LEGS)),
+    (legs.legs_sum, (web_w(), 0, LEGS)), (legs.legs_need, (web_w(), 0, LEGS)), (legs.legs_step, (web_w(), 0, LEGS, 3)),
+    (legs.first_below, (web_w(), 0, LEGS, 2)), (plans.is_plan, (web_w(), 0, PLAN)),
+    (plans.plan_sum, (web_w(), 0, PLAN, 33)), (plans.plan_rates, (web_w(), 0, PLAN)),
+    (plans.plan_need, (web_w(), 0, PLAN)), (plans.plan_credit, (web_w(), 0, PLAN, (1, 2), (4, 2))),
+    (plans.first_short, (web_w(), 0, PLAN, (1, 1), (10, 4), (20, 2))), (running.turning, (web_w(), 0, FOUND, 2)),
+    (running.chosen, (web_w(), 0, 9, odd_and_even, 8)), (texts.write, (BUILT,)), (texts.write, (WORKS,)),
+    (texts.write, (part_p(),)), (texts.read, (texts.write(BUILT),)), (texts.read, (texts.write(WORKS),)),
+    (houses.House, ()), (seeing.sees, ("rates", "prices")), (seeing.pair_unseen, ("rates", "on")),
+    (seeing.is_unseen, ("through", "on", (STEPPED, LOOPED))), (seeing.seen_form, (RATES_FORM, "rates", "prices")),
+    (thrifts.thrift, (RING_WEB, 0, (2, 2), 3)), (thrifts.thrifty, (RING_WEB, 0, (1, 1), 3)),
+    (thrifts.thrift_stairs, (RING_WEB, 0, (1, 1))), (thrifts.thrift_paper, (RING_WEB, 0, (1, 1), 3, (36, 14))),
+    (thrifts.is_thrift_paper, (RING_WEB, 0, (1, 1), 3, (36, 14), PAPER))]
+PROMISE = ("worth", "line", "rates", (0, [(0, 0, (1, 0), 2, 0)], (2, 2)), (9, 2))
+NET_OF_NAMES = (["mill", "mill"], [(0, 0, 1, 0)], [[(0, 0)]], [[(1, 0)]])
+# What is asked of a house; each is asked of a new one.
+ASKED = [("put", ("new", NET_OF_NAMES)), ("take", ("free",)), ("part", ("line",)), ("thing", ("line",)), ("names", ()),
+         ("users", ("mill",)), ("is_promise", (PROMISE,)), ("holds", (PROMISE,)), ("shown", (("under", "mill", "line", "rates"),)),
+         ("shown", (("alike", "line", "line", "through"),)), ("watch", (("alike", "mill", "mill", "on"),)),
+         ("unwatch", (PROMISE,)), ("watched", ()), ("broken_by", ("mill", STEPPED)), ("turned_by", ("mill", STEPPED, "on")),
+         ("undo", ()), ("redo", ()), ("done", ()), ("twin", ()), ("trial", (lambda house: house.names(),))]
+
+
+def house_asked():
+    """A house in which there is something to be asked."""
+    house = houses.House()
+    for name, thing in (("mill", part_p()), ("free", MORE), ("line", NET_OF_NAMES), ("last", STEPPED)):
+        house.put(name, thing)
+    house.watch(PROMISE)
+    house.put("last", part_p())
+    house.put("last", STEPPED)
+    house.undo()
+    return house
 
 
 def turned(thing):
@@ -124,10 +188,60 @@ class EverywhereTest(unittest.TestCase):
         for function, passed in CALLS:
             self.assertIsNotNone(function(*passed), function)
 
+    def test_all_methods_are_here(self):
+        from tests.test_language import CLASSES
+        self.assertEqual({name for name, _ in ASKED} | {"__eq__"}, {row.split("(")[0] for row in CLASSES["House"]})
+
+    def test_houses_by_name_and_with_lists(self):
+        for name, passed in ASKED:
+            told, house = [], house_asked()
+            words = list(inspect.signature(getattr(house, name)).parameters)
+            for things, by_name in ((passed, False), (passed, True), ([turned(one) for one in passed], False)):
+                house = house_asked()
+                kept = copy.deepcopy(things)
+                if by_name:
+                    named = list(zip(words, things))
+                    told.append(getattr(house, name)(**dict(reversed(named))))
+                else:
+                    told.append(getattr(house, name)(*things))
+                self.assertTrue(same(list(things), list(kept)), name)
+                told[-1] = (told[-1], house.names(), house.watched(), house.done(), house)
+            self.assertTrue(same(told[0], told[1]), name)
+            self.assertTrue(same(told[0], told[2]), name)
+
+    def test_houses_tell_new_things(self):
+        for name, passed in ASKED:
+            house = house_asked()
+            if name not in ("put", "take", "watch", "unwatch", "undo", "redo", "twin"):
+                first = getattr(house, name)(*passed)
+                kept = copy.deepcopy(first)
+                spoil(first)
+                self.assertTrue(same(getattr(house, name)(*passed), kept), name)
+                self.assertEqual(house, house_asked())
+
+    def test_houses_tell_nothing(self):
+        for name, passed in ASKED:
+            if name in ("put", "take", "watch", "unwatch"):
+                self.assertIsNone(getattr(house_asked(), name)(*passed))
+
+    def test_no_integers(self):
+        # Nothing else is raised of bools for numbers, and each error keeps the very object.
+        web = web_w()
+        for thing in (True, False):
+            for call in (lambda: legs.legs_step(web, 0, LEGS, thing), lambda: plans.plan_sum(web, 0, PLAN, thing),
+                         lambda: running.turning(web, 0, FOUND, thing), lambda: running.chosen(web, 0, 1, len, thing),
+                         lambda: thrifts.thrift(web, 0, (1, 1), thing), lambda: thrifts.thrift(web, thing, (1, 1), 0)):
+                with self.assertRaises(AroundError) as caught:
+                    call()
+                self.assertEqual([value for value in vars(caught.exception).values()], [thing])
+                self.assertIs(list(vars(caught.exception).values())[0], thing)
+
     def test_by_name(self):
         for function, passed in CALLS:
             names = list(inspect.signature(function).parameters)
-            self.assertTrue(same(function(**dict(zip(names, passed))), function(*passed)), function)
+            named = list(zip(names, passed))
+            self.assertTrue(same(function(**dict(named)), function(*passed)), function)
+            self.assertTrue(same(function(**dict(reversed(named))), function(*passed)), function)
 
     def test_lists_and_tuples(self):
         for function, passed in CALLS:
@@ -149,7 +263,7 @@ class EverywhereTest(unittest.TestCase):
 
     def test_bools_of_tests(self):
         for function, passed in CALLS:
-            if function.__name__.startswith("is_"):
+            if function.__name__.startswith(("is_", "are_")):
                 self.assertIs(function(*passed), True)
 
     def test_later_changes(self):

@@ -1,4 +1,4 @@
-"""What of LANGUAGE.md can be seen without running the package, and the interface of DOC.md as far as it has landed."""
+"""What of LANGUAGE.md can be seen without running the package, and the interface of DOC.md."""
 
 import ast
 import builtins
@@ -21,7 +21,7 @@ METHODS = set("""append clear copy count endswith extend find get index insert i
 NODES = set("""Module Expr Constant ImportFrom alias FunctionDef ClassDef arguments arg Assign AugAssign Return If While
     For Break Continue Pass Raise Call Name Load Store Attribute Subscript Slice Tuple List Dict ListComp DictComp
     comprehension BinOp Add Sub Mult FloorDiv Mod Pow BitAnd BitOr LShift RShift BoolOp And Or UnaryOp Not USub Compare
-    Eq NotEq Lt LtE Gt GtE Is IsNot In NotIn IfExp keyword Starred Lambda Del Delete""".split())
+    Eq NotEq Lt LtE Gt GtE Is IsNot In NotIn IfExp keyword Starred Lambda Del Delete Try BitOr Invert""".split())
 WORDS = set("""register mro elements open input law version_info typing enum Enum Generic Protocol ABC namedtuple
     NamedTuple TypedDict dataclass overload contextmanager eval exec compile globals locals vars dir""".split())
 
@@ -56,8 +56,32 @@ INTERFACE = {
               "enough(context, kind, wish, row)", "shown(context, kind, wish, filler)",
               "short_at(context, kind, wish, filler)", "is_shown(context, kind, wish, filler, thing)"],
     "learning": ["learned_stairs(box, most, gain)"],
-    "slices": ["slice_of(form, i, j, prices)", "learned_slice(box, ticks, cost)"]}
-CLASSES = {"Web": ["places", "steps", "__eq__"], "Part": ["web", "ins", "outs", "__eq__"]}
+    "slices": ["slice_of(form, i, j, prices)", "learned_slice(box, ticks, cost)"],
+    "programs": ["is_program(thing)", "is_run(program, thing)", "is_beginning(program, thing)", "run_apart(one, other)",
+                 "put_in(program, filler)"],
+    "programparts": ["program_part(program, works)", "walk_of(program, works, names)",
+                     "names_of(program, works, walk)"],
+    "programforms": ["program_form(program, works, kind)"],
+    "sureworks": ["once_counts(program)", "sure_papers(one, other, kind)", "are_sure_papers(one, other, kind, thing)",
+                  "parting_works(one, other, kind)"],
+    "legs": ["is_legs(web, place, thing)", "legs_sum(web, place, legs)", "legs_need(web, place, legs)",
+             "legs_step(web, place, legs, number)", "first_below(web, place, legs, stock)"],
+    "plans": ["is_plan(web, place, thing)", "plan_sum(web, place, plan, number)", "plan_rates(web, place, plan)",
+              "plan_need(web, place, plan)", "plan_credit(web, place, plan, prices, rate)",
+              "first_short(web, place, plan, prices, rate, credit)"],
+    "running": ["turning(web, place, found, turns)", "chosen(web, place, stock, chooser, steps)"],
+    "texts": ["write(thing)", "read(text)"],
+    "houses": ["House()"],
+    "seeing": ["sees(kind, other)", "pair_unseen(kind, other)", "is_unseen(kind, other, thing)",
+               "seen_form(form, kind, other)"],
+    "thrifts": ["thrift(web, place, prices, stock)", "thrifty(web, place, prices, stock)",
+                "thrift_stairs(web, place, prices)", "thrift_paper(web, place, prices, stock, rate)",
+                "is_thrift_paper(web, place, prices, stock, rate, thing)"]}
+CLASSES = {"Web": ["places()", "steps()", "__eq__(other)"], "Part": ["web()", "ins()", "outs()", "__eq__(other)"],
+           "House": ["put(name, thing)", "take(name)", "part(name)", "thing(name)", "names()", "users(name)",
+                     "is_promise(thing)", "holds(promise)", "shown(promise)", "watch(promise)", "unwatch(promise)",
+                     "watched()", "broken_by(name, thing)", "turned_by(name, thing, kind)", "undo()", "redo()", "done()",
+                     "twin()", "trial(work)", "__eq__(other)"]}
 
 
 def trees():
@@ -197,17 +221,24 @@ class LanguageTest(unittest.TestCase):
                     self.assertIsNotNone(ast.get_docstring(node), node.name)
 
 
+def parted(row):
+    """The name and the names of the parameters of a row of the interface."""
+    name, rest = row.rstrip(")").split("(")
+    return name, rest.split(", ") if rest else []
+
+
 class InterfaceTest(unittest.TestCase):
     def test_as_listed(self):
         for file, rows in INTERFACE.items():
             module = importlib.import_module("anyaround." + file)
             for row in rows:
-                name, rest = row.rstrip(")").split("(")
+                name, names = parted(row)
                 thing = getattr(module, name)
                 self.assertEqual(thing.__module__, "anyaround." + file)
-                self.assertEqual(list(inspect.signature(thing).parameters), rest.split(", "))
-                for method in CLASSES.get(name, []):
-                    self.assertIn(method, vars(thing))
+                self.assertEqual(list(inspect.signature(thing).parameters), names)
+                for method_row in CLASSES.get(name, []):
+                    method, names = parted(method_row)
+                    self.assertEqual(list(inspect.signature(vars(thing)[method]).parameters), ["self"] + names)
 
 
 if __name__ == "__main__":
