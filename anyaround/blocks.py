@@ -37,7 +37,7 @@ def need_of_blocks(blocks):
 
 
 def rounds_ahead(changes, times, stock):
-    """How often changes can be gone with a stock, of so many times, until one has less than 0 in them; None for never."""
+    """How often changes can be gone, of so many times, until one has less than 0 in them; None for never."""
     least, more = need_and_sum(changes)
     if times == 0 or (stock >= least and more >= 0):
         return None

@@ -61,7 +61,7 @@ def first_saving(row):
 
 
 def settled(columns, total):
-    """A triple: the rows of the last tableau, that of the costs behind them; the columns that they stand for; its scale.
+    """The rows of the last tableau, that of the costs behind them; the columns that they stand for; its scale.
 
     Who takes the first column that saves, and of the rows that limit it the one for the first column, comes to an end.
     """

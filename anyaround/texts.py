@@ -172,7 +172,7 @@ class ProgramReader:
         self.path = []
 
     def node_above(self, deep):
-        """The number of the node of which one so deep would be the next part, -1 for none; None if there can be none."""
+        """The node of which one so deep would be the next part, -1 for none; None if there can be none."""
         tree = self.tree
         if deep == 1:
             return None if tree.words else 0 - 1

@@ -1,7 +1,7 @@
 """Thrift: how cheaply one goes for ever whose stock must never fall below 0."""
 
-from anyaround.checks import (check_place, check_stock, checked_fraction, checked_prices, is_integer, is_list, is_number,
-                              undivided)
+from anyaround.checks import (check_place, check_stock, checked_fraction, checked_prices, is_integer, is_list,
+                              is_number, undivided)
 from anyaround.climbs import stairs_to
 from anyaround.rates import leads_to_integers
 from anyaround.ringrows import line_within
@@ -64,7 +64,7 @@ def checked_best(web, place, prices, stock):
 
 
 def thrift(web, place, prices, stock):
-    """The least that one can go on for ever for, per tick, with a stock that never falls below 0; None if one can not."""
+    """The least that one can go on for, per tick, with a stock that never falls below 0; None if one can not."""
     return checked_best(web, place, prices, stock)[0]
 
 
