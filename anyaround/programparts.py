@@ -48,9 +48,9 @@ def without(bits, number):
 def places_of(positions, hole, first):
     """The places, from first on, of all positions behind which another work can be done."""
     found = {}
-    todo = without(positions.first, hole)
-    if hole is not None:
-        todo.extend(without(positions.after(hole)[0], hole))
+    # What can be done first can often be done behind the hole, too.
+    begun = positions.first if hole is None else positions.first | positions.after(hole)[0]
+    todo = without(begun, hole)
     seen = {number: True for number in todo}
     while todo:
         number = todo.pop()

@@ -175,9 +175,11 @@ def random_program(random, deep=3, most=8, names=NAMES):
 
 
 def holed(random, program):
-    """A program with a hole in the place of a name, None if that stands within an often."""
+    """A program with a hole, or something with one, in the place of a name, None if that stands within an often."""
     if isinstance(program, str):
-        return ("hole",)
+        one, other = random.choice(NAMES), random.choice(NAMES)
+        return random.choice([("hole",), ("behind", [one, ("hole",)]), ("behind", [("hole",), other]),
+                              ("behind", [one, ("hole",), other])])
     if program[0] == "often":
         return None
     if program[0] == "again":
@@ -202,6 +204,15 @@ def holed_programs(seed, many, **more):
         if program is not None:
             found.append(program)
     return found
+
+
+def clothed_programs(seed, many, **more):
+    """Programs with a hole whose runs never begin or end with it, nor have two of them one behind another."""
+    random = Random(seed)
+    found = []
+    while len(found) < many:
+        found += [program for program in holed_programs(random.random(), 10, **more) if not is_bare_plainly(program)]
+    return found[:many]
 
 
 def ends_with_hole(program):

@@ -12,7 +12,7 @@ from anyaround.programparts import program_part
 from anyaround.refusals import BadProgram, BadWorks, BareHole, NoWork
 
 from tests.plain import KINDS
-from tests.plain_programs import (BUILT, HOLED, WORKS, holed_programs, is_bare_plainly, no_programs, random_programs,
+from tests.plain_programs import (BUILT, HOLED, WORKS, clothed_programs, no_programs, random_programs,
                                   turned, works_for)
 from tests.test_programparts import BARE, distinct
 
@@ -32,12 +32,11 @@ class LikePartsTest(unittest.TestCase):
 
     def test_with_a_hole(self):
         random = Random(24)
-        for program in holed_programs(25, 60):
-            if not is_bare_plainly(program):
-                for kind in KINDS:
-                    works = works_for(random, kind)
-                    told = program_form(program, works, kind)
-                    self.assertEqual(told, form(program_part(program, works), kind), (program, works, kind))
+        for program in clothed_programs(25, 80):
+            for kind in KINDS:
+                works = works_for(random, kind)
+                told = program_form(program, works, kind)
+                self.assertEqual(told, form(program_part(program, works), kind), (program, works, kind))
 
     def test_example(self):
         self.assertEqual(program_form(BUILT, WORKS, "rates"), [([(0, 3, 2), (2, 0, 1)], [[(1, 4, 3), (3, 1, 2)]])])

@@ -14,11 +14,12 @@ from anyaround.webs import is_walk
 
 from tests.brute import objects
 from tests.plain import KINDS
-from tests.plain_programs import (BUILT, HOLED, WORKS, beginnings, behind_hole, holed_programs, is_bare_plainly,
-                                  no_programs, random_programs, random_works, runs, turned, up_to_none, works_for)
+from tests.plain_programs import (BUILT, HOLED, WORKS, beginnings, behind_hole, clothed_programs, holed_programs,
+                                  is_bare_plainly, no_programs, random_programs, random_works, runs, turned,
+                                  up_to_none, works_for)
 
 PLAIN = random_programs(11, 60)
-HOLES = [program for program in holed_programs(12, 120) if not is_bare_plainly(program)]
+HOLES = clothed_programs(12, 120)
 BARE = [("hole",), ("behind", ["a", ("hole",)]), ("behind", [("hole",), "a"]), ("again", ("hole",)),
         ("either", ["a", ("hole",)]), ("behind", ["a", ("again", ("hole",)), "b"]),
         ("behind", ["a", ("either", [("again", ("hole",)), "b"]), "b"]), ("again", ("behind", ["a", ("hole",)])),
