@@ -137,7 +137,7 @@ def walk_of(program, works, names):
     layers = layers_along(ground, names)
     if layers is None:
         raise NoBeginning(names)
-    last = min(list(layers[-1]), key=lambda number: (ground.end not in end_places(ground, number), number))
+    last = min(list(layers[-1]), key=lambda one: (ground.end not in end_places(ground, one), one))
     walk = []
     place = 0
     for number in back_along(layers, last):

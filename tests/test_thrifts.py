@@ -162,6 +162,24 @@ class ThriftTest(unittest.TestCase):
             if rate_at(web, place, prices) is not None:
                 self.assertEqual(thrift_stairs(web, place, prices), [(0, rate_at(web, place, prices))])
 
+    def test_no_rings(self):
+        for web in (Web(1, []), Web(2, [(0, 1, (1, 1), 1, 5)]), Web(1, [(0, 0, (1, 1), 1, -1)])):
+            for stock in (0, 1000):
+                self.assertIsNone(thrift(web, 0, ONE, stock))
+                self.assertIsNone(thrifty(web, 0, ONE, stock))
+                for rate in ((-5, 1), (999, 1)):
+                    told = thrift_paper(web, 0, ONE, stock, rate)
+                    self.assertTrue(is_thrift_paper(web, 0, ONE, stock, rate, told))
+            self.assertEqual(thrift_stairs(web, 0, ONE), [])
+
+    def test_one_ring(self):
+        gaining, even = Web(1, [(0, 0, (1, 1), 2, 3)]), Web(2, [(0, 1, (3, 0), 1, -4), (1, 0, (1, 0), 1, 4)])
+        self.assertEqual(thrift_stairs(gaining, 0, ONE), [(0, (1, 1))])
+        self.assertEqual(thrifty(gaining, 0, ONE, 0), [(gaining.steps(), 1)])
+        self.assertEqual(thrift_stairs(even, 0, (2, 1)), [(4, (4, 1))])
+        self.assertEqual(thrift_stairs(even, 1, (2, 1)), [(0, (4, 1))])
+        self.assertIsNone(thrift(even, 0, ONE, 3))
+
     def test_no_walk_is_cheaper(self):
         for web, place, prices in cases(116, 60):
             least = least_on(web, place)
