@@ -23,7 +23,7 @@ class Ground:
         self.end = 1 if self.hole is None else 2
         self.ahead = None if self.hole is None else 3
         # The positions that have places of their own, behind which another work can be done.
-        self.own = places_of(positions, self.hole, self.end + (1 if self.hole is None else 2))
+        self.own = places_of(positions, self.hole, 2 * self.end)
 
     def work(self, number):
         """What the work at a position has."""
